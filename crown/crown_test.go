@@ -319,7 +319,7 @@ func TestReadOfStrangers(t *testing.T) {
 	}
 }
 
-func TestReadFindsEveryBurst(t *testing.T) {
+func TestReadFindsBursts(t *testing.T) {
 	d := newDisk(t, 4)
 	format(t, d)
 	write(t, d, crown.First().Next())

@@ -162,7 +162,7 @@ func TestParseOfBlank(t *testing.T) {
 	}
 }
 
-func TestParseFindsEveryBurst(t *testing.T) {
+func TestParseFindsBursts(t *testing.T) {
 	b := laidOut(page.Page{Gen: 7, Serial: 8, Number: 9, Kind: 1, Data: []byte("ab")})
 	for bit := range 8 * 512 {
 		for _, mask := range []uint64{1, 3, 5, 0x80000001, 0xffffffff} {
