@@ -7,6 +7,7 @@ import (
 
 	"hourglass/api"
 	"hourglass/arena"
+	"hourglass/author"
 	"hourglass/check"
 	"hourglass/grammar"
 	"hourglass/run"
@@ -168,8 +169,7 @@ func TestAgainstModel(t *testing.T) {
 	ends := map[byte]int{}
 	long := 0
 	for range 1000 {
-		w := author{r: r}
-		program := w.program()
+		program := author.Program(r.Intn)
 		a := right(t, program)
 		var input []int64
 		for range r.Intn(12) {

@@ -1,16 +1,16 @@
-package run_test
+// Package author writes programs for the tests of the layers.
+package author
 
 import (
-	"math/rand"
 	"strconv"
 	"strings"
 )
 
-// author writes random programs that are right. They call each other at will,
-// but most of them end: a function hands on one less than the number n that it
-// was given, and calls only where that is above 0; and loops count.
+// author has functions call each other at will, but most programs end: a
+// function hands on one less than the number n that it was given, and calls
+// only where that is above 0; and loops count.
 type author struct {
-	r       *rand.Rand
+	below   func(n int) int
 	routes  []route
 	visible []known
 	names   int // of variables, in the function
@@ -27,17 +27,24 @@ type known struct {
 	name, kind string
 }
 
+// Program returns a program that is right. What is in it is chosen by below,
+// which returns a number from 0 on below n.
+func Program(below func(n int) int) string {
+	w := author{below: below}
+	return w.program()
+}
+
 func (w *author) pick(l ...string) string {
-	return l[w.r.Intn(len(l))]
+	return l[w.below(len(l))]
 }
 
 // program has the modules a, main and b, of which a and b may be empty.
 func (w *author) program() string {
 	modules := map[string][]route{}
-	for i := range 1 + w.r.Intn(4) {
+	for i := range 1 + w.below(4) {
 		m := w.pick("a", "main", "b")
 		f := route{path: m + ".f" + strconv.Itoa(i), result: w.pick("int", "bool")}
-		for range w.r.Intn(3) {
+		for range w.below(3) {
 			f.takes = append(f.takes, w.pick("int", "bool"))
 		}
 		modules[m] = append(modules[m], f)
@@ -90,7 +97,7 @@ func (w *author) block(many, deep int) string {
 
 func (w *author) statements(many, deep int) string {
 	text := ""
-	for range w.r.Intn(many + 1) {
+	for range w.below(many + 1) {
 		text += w.statement(many-1, deep-1)
 	}
 	return text
@@ -101,18 +108,18 @@ func (w *author) statement(many, deep int) string {
 	if deep > 0 {
 		simple = 9
 	}
-	switch w.r.Intn(simple) {
+	switch w.below(simple) {
 	case 0:
 		kind := w.pick("int", "bool")
 		e := w.expression(kind, 3)
 		return "let " + w.declare(kind) + " " + kind + " = " + e + ";\n"
 	case 1:
-		if v := w.visible[w.r.Intn(len(w.visible))]; v.name != "n" && v.name[0] != 'i' {
+		if v := w.visible[w.below(len(w.visible))]; v.name != "n" && v.name[0] != 'i' {
 			return v.name + " = " + w.expression(v.kind, 3) + ";\n"
 		}
 	case 2:
 		if w.calling {
-			return "do " + w.call(w.routes[w.r.Intn(len(w.routes))], 2) + ";\n"
+			return "do " + w.call(w.routes[w.below(len(w.routes))], 2) + ";\n"
 		}
 	case 5:
 		return "if " + w.expression("bool", 3) + " " + w.block(many, deep) + " else " + w.block(many, deep) + "\n"
@@ -139,11 +146,11 @@ func (w *author) loop(many, deep int) string {
 	i := "i" + strconv.Itoa(w.names)
 	w.visible = append(w.visible, known{i, "int"})
 	count := i + " = (" + i + " + 1);\n"
-	if w.r.Intn(12) == 0 {
+	if w.below(12) == 0 {
 		count = ""
 	}
 	condition := "(" + i + " < " + w.pick("1", "2", "3", "5") + ")"
-	if w.r.Intn(2) == 0 {
+	if w.below(2) == 0 {
 		condition = "(" + condition + " && " + w.expression("bool", 2) + ")"
 	}
 	return "let " + i + " int = 0;\nwhile " + condition + " {\n" + count + w.block(many, deep)[2:] + "\n"
@@ -158,20 +165,20 @@ func (w *author) call(f route, deep int) string {
 }
 
 func (w *author) expression(kind string, deep int) string {
-	if deep <= 0 || w.r.Intn(5) == 0 {
+	if deep <= 0 || w.below(5) == 0 {
 		return w.leaf(kind)
 	}
-	if f := w.routes[w.r.Intn(len(w.routes))]; w.calling && f.result == kind && w.r.Intn(3) == 0 {
+	if f := w.routes[w.below(len(w.routes))]; w.calling && f.result == kind && w.below(3) == 0 {
 		return w.call(f, deep)
 	}
 	both := func(kind string, signs ...string) string {
 		return "(" + w.expression(kind, deep-1) + " " + w.pick(signs...) + " " + w.expression(kind, deep-1) + ")"
 	}
-	choice := w.r.Intn(6)
+	choice := w.below(6)
 	switch {
 	case kind == "int" && choice == 0:
 		return "-" + w.expression("int", deep-1)
-	case kind == "int" && choice == 1 && w.r.Intn(2) == 0:
+	case kind == "int" && choice == 1 && w.below(2) == 0:
 		return both("int", "/", "%")
 	case kind == "int":
 		return both("int", "+", "-", "*")
@@ -186,7 +193,7 @@ func (w *author) expression(kind string, deep int) string {
 }
 
 func (w *author) leaf(kind string) string {
-	if v := w.visible[w.r.Intn(len(w.visible))]; v.kind == kind && w.r.Intn(4) > 0 {
+	if v := w.visible[w.below(len(w.visible))]; v.kind == kind && w.below(4) > 0 {
 		return v.name
 	}
 	if kind == "int" {
