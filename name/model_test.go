@@ -9,12 +9,12 @@ import (
 	"hourglass/api"
 	"hourglass/arena"
 	"hourglass/author"
-	"hourglass/check"
 	"hourglass/name"
 	"hourglass/op"
 	"hourglass/run"
 	"hourglass/text"
 	"hourglass/token"
+	"hourglass/trial"
 )
 
 // model is the nodes of a program that is right. Its methods do what is
@@ -22,36 +22,20 @@ import (
 type model map[api.ID]api.Node
 
 func modelled(a *arena.Arena) model {
-	m := model{}
-	for _, id := range a.IDs() {
-		m[id], _ = a.Get(id)
-	}
-	return m
+	return model(trial.NodesOf(a))
 }
 
-func (m model) end() result {
-	a := arena.New()
-	a.Drop(1)
-	for id, n := range m {
-		a.Put(id, n)
-	}
-	if e := check.Right(a); e != api.OK {
-		return result{nil, e}
-	}
-	return result{a, api.OK}
+func (m model) end() trial.Result {
+	return trial.Nodes(m).End()
 }
 
-func fail(e api.Errno) result {
-	return result{nil, e}
-}
-
-func (m model) rename(kind byte, id api.ID, name string) result {
+func (m model) rename(kind byte, id api.ID, name string) trial.Result {
 	n, ok := m[id]
 	if !ok || n.Kind != kind || n.Name == "" {
-		return fail(api.ErrNone)
+		return trial.Fail(api.ErrNone)
 	}
 	if !token.IsName(name) {
-		return fail(api.ErrName)
+		return trial.Fail(api.ErrName)
 	}
 	n.Name = name
 	m[id] = n
@@ -80,56 +64,47 @@ func (m model) off(id api.ID) {
 
 func all(api.ID) bool { return true }
 
-func (m model) move(f, module api.ID) result {
+func (m model) move(f, module api.ID) trial.Result {
 	if m[f].Kind != arena.Func || m[module].Kind != arena.Module {
-		return fail(api.ErrNone)
+		return trial.Fail(api.ErrNone)
 	}
 	m.off(f)
 	m.set(module, all, f)
 	return m.end()
 }
 
-func (m model) addModule(name string, id api.ID) result {
+func (m model) addModule(name string, id api.ID) trial.Result {
 	if !token.IsName(name) {
-		return fail(api.ErrName)
+		return trial.Fail(api.ErrName)
 	}
 	if _, exists := m[id]; exists {
-		return fail(api.ErrFull)
+		return trial.Fail(api.ErrFull)
 	}
 	m.set(1, all, id)
 	m[id] = api.Node{Kind: arena.Module, Name: name}
 	return m.end()
 }
 
-func (m model) dropModule(module api.ID) result {
+func (m model) dropModule(module api.ID) trial.Result {
 	if m[module].Kind != arena.Module {
-		return fail(api.ErrNone)
+		return trial.Fail(api.ErrNone)
 	}
 	if len(m[module].Kids) > 0 {
-		return fail(api.ErrUsed)
+		return trial.Fail(api.ErrUsed)
 	}
 	m.off(module)
 	delete(m, module)
 	return m.end()
 }
 
-// below returns a node and everything below it.
-func (m model) below(id api.ID) []api.ID {
-	l := []api.ID{id}
-	for _, kid := range m[id].Kids {
-		l = append(l, m.below(kid)...)
-	}
-	return l
-}
-
-func (m model) dropFunc(f api.ID) result {
+func (m model) dropFunc(f api.ID) trial.Result {
 	if m[f].Kind != arena.Func {
-		return fail(api.ErrNone)
+		return trial.Fail(api.ErrNone)
 	}
-	inside := m.below(f)
+	inside := trial.Nodes(m).Below(f)
 	for id, n := range m {
 		if n.Kind == arena.Call && n.Ref == f && !slices.Contains(inside, id) {
-			return fail(api.ErrUsed)
+			return trial.Fail(api.ErrUsed)
 		}
 	}
 	m.off(f)
@@ -174,25 +149,25 @@ func (c changer) name(kind byte) string {
 }
 
 // change returns which call it makes, what that returns, and what it should.
-func (c changer) change() (what string, got, want result) {
+func (c changer) change() (what string, got, want trial.Result) {
 	m := modelled(c.a)
 	switch c.r.Intn(8) {
 	case 0:
 		to, stamp := c.name(arena.Module), uint32(1+c.r.Intn(5))
-		return "AddModule " + to, of(name.AddModule(c.a, to, op.Fresh(stamp))), m.addModule(to, api.ID(stamp)*65536+1)
+		return "AddModule " + to, trial.Of(name.AddModule(c.a, to, op.Fresh(stamp))), m.addModule(to, api.ID(stamp)*65536+1)
 	case 1:
 		id := c.pick(arena.Module)
-		return "DropModule", of(name.DropModule(c.a, id)), m.dropModule(id)
+		return "DropModule", trial.Of(name.DropModule(c.a, id)), m.dropModule(id)
 	case 2:
 		id := c.pick(arena.Func)
-		return "DropFunc", of(name.DropFunc(c.a, id)), m.dropFunc(id)
+		return "DropFunc", trial.Of(name.DropFunc(c.a, id)), m.dropFunc(id)
 	case 3, 4:
 		f, module := c.pick(arena.Func), c.pick(arena.Module)
-		return "Move", of(name.Move(c.a, f, module)), m.move(f, module)
+		return "Move", trial.Of(name.Move(c.a, f, module)), m.move(f, module)
 	}
 	kind := []byte{arena.Module, arena.Func, arena.Param, arena.Let}[c.r.Intn(4)]
 	id, to := c.pick(kind), c.name(kind)
-	return "Rename to " + to, of(name.Rename(c.a, kind, id, to)), m.rename(kind, id, to)
+	return "Rename to " + to, trial.Of(name.Rename(c.a, kind, id, to)), m.rename(kind, id, to)
 }
 
 // wantSameRuns compares all that a run tells, with some inputs and fuels.
@@ -224,7 +199,7 @@ func TestRandomly(t *testing.T) {
 	r := rand.New(rand.NewSource(1))
 	counts := map[string]map[api.Errno]int{}
 	for range 100 {
-		first := right(t, author.Program(r.Intn))
+		first := trial.Right(t, author.Program(r.Intn))
 		c := changer{r, first}
 		for range 30 {
 			before := c.a.Copy()
@@ -233,16 +208,17 @@ func TestRandomly(t *testing.T) {
 			if counts[sort] == nil {
 				counts[sort] = map[api.Errno]int{}
 			}
-			counts[sort][got.e]++
+			counts[sort][got.Error]++
 			if !arena.Same(c.a, before) {
 				t.Fatalf("%s has changed its argument", what)
 			}
-			if got.e != want.e || !arena.Same(got.a, want.a) {
+			trial.WantResult(t, what, got, want)
+			if t.Failed() {
 				printed, _ := text.Print(before)
-				t.Fatalf("%s: error %d, want error %d, in\n%s", what, got.e, want.e, printed)
+				t.Fatalf("in\n%s", printed)
 			}
-			if got.e == api.OK {
-				c.a = got.a
+			if got.Error == api.OK {
+				c.a = got.Arena
 			}
 		}
 		wantSameRuns(t, r, first, c.a)

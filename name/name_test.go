@@ -8,29 +8,10 @@ import (
 	"hourglass/api"
 	"hourglass/arena"
 	"hourglass/check"
-	"hourglass/grammar"
 	"hourglass/name"
 	"hourglass/op"
-	"hourglass/text"
+	"hourglass/trial"
 )
-
-func parsed(t *testing.T, s string) *arena.Arena {
-	t.Helper()
-	a, e := grammar.Parse(s)
-	if e != api.OK {
-		t.Fatalf("Parse of %q: error %d", s, e)
-	}
-	return a
-}
-
-func right(t *testing.T, s string) *arena.Arena {
-	t.Helper()
-	a := parsed(t, s)
-	if e := check.Right(a); e != api.OK {
-		t.Fatalf("%q is not right: %d", s, e)
-	}
-	return a
-}
 
 const town = `module k {
 	func f(a int) int {
@@ -99,51 +80,6 @@ func named(t *testing.T, a *arena.Arena, path string) api.ID {
 	return id
 }
 
-// result is what a call returns.
-type result struct {
-	a *arena.Arena
-	e api.Errno
-}
-
-func of(a *arena.Arena, e api.Errno) result {
-	return result{a, e}
-}
-
-func wantError(t *testing.T, what string, got result, want api.Errno) {
-	t.Helper()
-	if got.e != want || got.a != nil {
-		t.Errorf("%s: %v, error %d, want error %d", what, got.a, got.e, want)
-	}
-}
-
-// wantArena expects a success.
-func wantArena(t *testing.T, what string, got result, want *arena.Arena) {
-	t.Helper()
-	if got.e != api.OK || !arena.Same(got.a, want) {
-		have, _ := text.Print(got.a)
-		expected, _ := text.Print(want)
-		t.Fatalf("%s: error %d\n%s\nwant\n%s", what, got.e, have, expected)
-	}
-}
-
-// wantText expects a success, and a program that is printed like that.
-func wantText(t *testing.T, what string, got result, want string) {
-	t.Helper()
-	have, e := text.Print(got.a)
-	if got.e != api.OK || e != api.OK || have != want {
-		t.Errorf("%s: error %d, %d\n%s\nwant\n%s", what, got.e, e, have, want)
-	}
-}
-
-// with returns a copy in which a node is changed.
-func with(a *arena.Arena, id api.ID, change func(n *api.Node)) *arena.Arena {
-	b := a.Copy()
-	n, _ := b.Get(id)
-	change(&n)
-	b.Put(id, n)
-	return b
-}
-
 // no is a function that has no IDs, and counts how often it is called.
 func no(times *int) func() (api.ID, bool) {
 	return func() (api.ID, bool) {
@@ -152,18 +88,13 @@ func no(times *int) func() (api.ID, bool) {
 	}
 }
 
-// one is a function that returns one ID again and again.
-func one(id api.ID) func() (api.ID, bool) {
-	return func() (api.ID, bool) { return id, true }
-}
-
 func TestExample(t *testing.T) {
-	a := right(t, "module main { func main() int { return 1; } }")
-	wantError(t, "Rename of main.main", of(name.Rename(a, arena.Func, 3, "other")), api.ErrNone)
+	a := trial.Right(t, "module main { func main() int { return 1; } }")
+	trial.WantError(t, "Rename of main.main", trial.Of(name.Rename(a, arena.Func, 3, "other")), api.ErrNone)
 }
 
 func TestTown(t *testing.T) {
-	a := right(t, town)
+	a := trial.Right(t, town)
 	for path, want := range map[string]api.ID{"k": k, "k.f": kF, "k.f.a": kFA, "k.f.x": kFX, "main": main, "main.main": mainMain, "main.g": mainG, "main.g.a": mainGA, "main.main2": main2, "empty": empty, "z": z, "z.g": zG} {
 		if got := named(t, a, path); got != want {
 			t.Errorf("%s: %d, want %d", path, got, want)
@@ -172,18 +103,18 @@ func TestTown(t *testing.T) {
 	if v, _ := a.Get(kFVar); v.Kind != arena.Var || a.Len() != size {
 		t.Error(v, a.Len())
 	}
-	wantText(t, "town", result{a, api.OK}, town)
+	trial.WantText(t, "town", trial.Of(a, api.OK), town)
 }
 
 // TestRename: everything that refers to what is renamed is printed with the
 // new name, and nothing else.
 func TestRename(t *testing.T) {
-	a := right(t, town)
+	a := trial.Right(t, town)
 	rename := func(kind byte, path, to string, replacer ...string) {
 		t.Helper()
-		got := of(name.Rename(a, kind, named(t, a, path), to))
-		wantText(t, path+" to "+to, got, strings.NewReplacer(replacer...).Replace(town))
-		wantArena(t, path+" to "+to, got, with(a, named(t, a, path), func(n *api.Node) { n.Name = to }))
+		got := trial.Of(name.Rename(a, kind, named(t, a, path), to))
+		trial.WantText(t, path+" to "+to, got, strings.NewReplacer(replacer...).Replace(town))
+		trial.WantArena(t, path+" to "+to, got, trial.With(a, named(t, a, path), func(n *api.Node) { n.Name = to }))
 	}
 	rename(arena.Module, "k", "f", "module k", "module f", "k.f", "f.f")
 	rename(arena.Module, "k", "k0", "module k", "module k0", "k.f", "k0.f")
@@ -202,7 +133,7 @@ func TestRename(t *testing.T) {
 }
 
 func TestRenameErrors(t *testing.T) {
-	a := right(t, town)
+	a := trial.Right(t, town)
 	have := []byte{arena.Module, arena.Func, arena.Param, arena.Let}
 	var kinds []byte
 	for kind := byte(0); kind <= arena.Read+1; kind++ {
@@ -215,25 +146,25 @@ func TestRenameErrors(t *testing.T) {
 			if n.Kind == kind && slices.Contains(have, kind) {
 				want = api.ErrName
 			} else {
-				wantError(t, "another kind", of(name.Rename(a, kind, id, "new")), api.ErrNone)
+				trial.WantError(t, "another kind", trial.Of(name.Rename(a, kind, id, "new")), api.ErrNone)
 			}
 			for _, to := range []string{"", "if", strings.Repeat("x", api.MaxName+1)} {
-				wantError(t, "no name", of(name.Rename(a, kind, id, to)), want)
+				trial.WantError(t, "no name", trial.Of(name.Rename(a, kind, id, to)), want)
 			}
 		}
 	}
 	for _, id := range []api.ID{0, size + 1, 1 << 63} {
 		for _, kind := range kinds {
-			wantError(t, "no node", of(name.Rename(a, kind, id, "new")), api.ErrNone)
-			wantError(t, "no node, no name", of(name.Rename(a, kind, id, "")), api.ErrNone)
+			trial.WantError(t, "no node", trial.Of(name.Rename(a, kind, id, "new")), api.ErrNone)
+			trial.WantError(t, "no node, no name", trial.Of(name.Rename(a, kind, id, "")), api.ErrNone)
 		}
 	}
 	for _, to := range []string{"", "if", "1", "a b", "a.b", "a ", "é", "\x00", strings.Repeat("x", api.MaxName+1)} {
-		wantError(t, to, of(name.Rename(a, arena.Let, kFX, to)), api.ErrName)
+		trial.WantError(t, to, trial.Of(name.Rename(a, arena.Let, kFX, to)), api.ErrName)
 	}
 	fails := func(kind byte, path, to string, want api.Errno) {
 		t.Helper()
-		wantError(t, path+" to "+to, of(name.Rename(a, kind, named(t, a, path), to)), want)
+		trial.WantError(t, path+" to "+to, trial.Of(name.Rename(a, kind, named(t, a, path), to)), want)
 	}
 	fails(arena.Module, "k", "z", api.ErrClash)
 	fails(arena.Module, "k", "main", api.ErrClash)
@@ -251,16 +182,16 @@ func TestRenameErrors(t *testing.T) {
 // TestRenameOfHidden: variables of a function clash also where neither is
 // visible to the other one.
 func TestRenameOfHidden(t *testing.T) {
-	a := right(t, "module main { func main() int { if true { let x int = 1; } else { let y int = 2; } return 0; } }")
-	wantError(t, "x to y", of(name.Rename(a, arena.Let, named(t, a, "x"), "y")), api.ErrClash)
-	wantArena(t, "x to z", of(name.Rename(a, arena.Let, named(t, a, "x"), "z")), with(a, named(t, a, "x"), func(n *api.Node) { n.Name = "z" }))
+	a := trial.Right(t, "module main { func main() int { if true { let x int = 1; } else { let y int = 2; } return 0; } }")
+	trial.WantError(t, "x to y", trial.Of(name.Rename(a, arena.Let, named(t, a, "x"), "y")), api.ErrClash)
+	trial.WantArena(t, "x to z", trial.Of(name.Rename(a, arena.Let, named(t, a, "x"), "z")), trial.With(a, named(t, a, "x"), func(n *api.Node) { n.Name = "z" }))
 }
 
 const rows = "module a { func f() int { return 1; } func g() int { return a.f(); } func h() int { return b.f(); } } module main { func main() int { return a.h(); } } module b { func f() int { return 2; } } module c { }"
 
 // TestMove compares the rows of functions.
 func TestMove(t *testing.T) {
-	a := right(t, rows)
+	a := trial.Right(t, rows)
 	for _, c := range []struct{ f, module, a, main, b, c string }{
 		{"a.f", "main", "g h", "main f", "f", ""},
 		{"a.g", "main", "f h", "main g", "f", ""},
@@ -313,49 +244,49 @@ func functions(a *arena.Arena, module api.ID) string {
 
 // TestMoveText: calls are printed with the new module.
 func TestMoveText(t *testing.T) {
-	a := right(t, town)
+	a := trial.Right(t, town)
 	const f = "\tfunc f(a int) int {\n\t\tlet x int = (a + 1);\n\t\treturn x;\n\t}\n"
 	without := strings.ReplaceAll(strings.Replace(town, f, "", 1), "k.f", "empty.f")
 	want := strings.Replace(without, "module empty {\n", "module empty {\n"+f, 1)
-	wantText(t, "k.f into empty", of(name.Move(a, kF, empty)), want)
+	trial.WantText(t, "k.f into empty", trial.Of(name.Move(a, kF, empty)), want)
 }
 
 func TestMoveErrors(t *testing.T) {
-	a := right(t, town)
+	a := trial.Right(t, town)
 	for id, n := range a.Walk(1) {
 		if n.Kind != arena.Func {
-			wantError(t, "no function", of(name.Move(a, id, empty)), api.ErrNone)
+			trial.WantError(t, "no function", trial.Of(name.Move(a, id, empty)), api.ErrNone)
 		}
 		if n.Kind != arena.Module {
-			wantError(t, "no module", of(name.Move(a, kF, id)), api.ErrNone)
+			trial.WantError(t, "no module", trial.Of(name.Move(a, kF, id)), api.ErrNone)
 		}
-		wantError(t, "into itself", of(name.Move(a, id, id)), api.ErrNone)
+		trial.WantError(t, "into itself", trial.Of(name.Move(a, id, id)), api.ErrNone)
 	}
 	for _, id := range []api.ID{0, size + 1, 1 << 63} {
-		wantError(t, "no node", of(name.Move(a, id, empty)), api.ErrNone)
-		wantError(t, "no node", of(name.Move(a, kF, id)), api.ErrNone)
+		trial.WantError(t, "no node", trial.Of(name.Move(a, id, empty)), api.ErrNone)
+		trial.WantError(t, "no node", trial.Of(name.Move(a, kF, id)), api.ErrNone)
 	}
-	wantError(t, "main.g into z", of(name.Move(a, mainG, z)), api.ErrClash)
-	wantError(t, "z.g into main", of(name.Move(a, zG, main)), api.ErrClash)
-	wantError(t, "main.main into empty", of(name.Move(a, mainMain, empty)), api.ErrNone)
+	trial.WantError(t, "main.g into z", trial.Of(name.Move(a, mainG, z)), api.ErrClash)
+	trial.WantError(t, "z.g into main", trial.Of(name.Move(a, zG, main)), api.ErrClash)
+	trial.WantError(t, "main.main into empty", trial.Of(name.Move(a, mainMain, empty)), api.ErrNone)
 }
 
 func TestAddModule(t *testing.T) {
-	a := right(t, town)
+	a := trial.Right(t, town)
 	for _, id := range []api.ID{size + 1, size + 2, 1000, 1<<64 - 1} {
 		for _, called := range []string{"new", "a", "f", "_", "Main", strings.Repeat("x", api.MaxName)} {
-			want := with(a, 1, func(n *api.Node) { n.Kids = append(n.Kids, id) })
+			want := trial.With(a, 1, func(n *api.Node) { n.Kids = append(n.Kids, id) })
 			want.Put(id, api.Node{Kind: arena.Module, Name: called})
-			got := of(name.AddModule(a, called, one(id)))
-			wantArena(t, called, got, want)
-			wantText(t, called, got, town+"module "+called+" {\n}\n")
+			got := trial.Of(name.AddModule(a, called, trial.One(id)))
+			trial.WantArena(t, called, got, want)
+			trial.WantText(t, called, got, town+"module "+called+" {\n}\n")
 		}
 	}
 }
 
 // TestAddModuleTakesOneID: the next one of fresh, each time.
 func TestAddModuleTakesOneID(t *testing.T) {
-	a := right(t, town)
+	a := trial.Right(t, town)
 	fresh := op.Fresh(1)
 	for i, called := range []string{"x", "y", "v"} {
 		b, e := name.AddModule(a, called, fresh)
@@ -370,29 +301,29 @@ func TestAddModuleTakesOneID(t *testing.T) {
 }
 
 func TestAddModuleErrors(t *testing.T) {
-	a := right(t, town)
+	a := trial.Right(t, town)
 	for _, called := range []string{"", "if", "1", "a b", "a.b", "é", strings.Repeat("x", api.MaxName+1)} {
 		times := 0
-		wantError(t, called, of(name.AddModule(a, called, no(&times))), api.ErrName)
-		wantError(t, called, of(name.AddModule(a, called, nil)), api.ErrName)
-		wantError(t, called, of(name.AddModule(a, called, one(kF))), api.ErrName)
+		trial.WantError(t, called, trial.Of(name.AddModule(a, called, no(&times))), api.ErrName)
+		trial.WantError(t, called, trial.Of(name.AddModule(a, called, nil)), api.ErrName)
+		trial.WantError(t, called, trial.Of(name.AddModule(a, called, trial.One(kF))), api.ErrName)
 		if times > 0 {
 			t.Error("fresh was called, although the name is none")
 		}
 	}
 	for _, called := range []string{"new", "k", "main"} {
 		times := 0
-		wantError(t, "no ID", of(name.AddModule(a, called, no(&times))), api.ErrFull)
-		wantError(t, "no function", of(name.AddModule(a, called, nil)), api.ErrFull)
-		wantError(t, "the ID 0", of(name.AddModule(a, called, one(0))), api.ErrFull)
-		wantError(t, "the stamp 0", of(name.AddModule(a, called, op.Fresh(0))), api.ErrFull)
+		trial.WantError(t, "no ID", trial.Of(name.AddModule(a, called, no(&times))), api.ErrFull)
+		trial.WantError(t, "no function", trial.Of(name.AddModule(a, called, nil)), api.ErrFull)
+		trial.WantError(t, "the ID 0", trial.Of(name.AddModule(a, called, trial.One(0))), api.ErrFull)
+		trial.WantError(t, "the stamp 0", trial.Of(name.AddModule(a, called, op.Fresh(0))), api.ErrFull)
 		for id := range a.Walk(1) {
-			wantError(t, "an ID that exists", of(name.AddModule(a, called, one(id))), api.ErrFull)
+			trial.WantError(t, "an ID that exists", trial.Of(name.AddModule(a, called, trial.One(id))), api.ErrFull)
 		}
-		wantError(t, "an ID beside false", of(name.AddModule(a, called, func() (api.ID, bool) { return size + 1, false })), api.ErrFull)
+		trial.WantError(t, "an ID beside false", trial.Of(name.AddModule(a, called, func() (api.ID, bool) { return size + 1, false })), api.ErrFull)
 	}
 	for _, called := range []string{"k", "main", "empty", "z"} {
-		wantError(t, called, of(name.AddModule(a, called, one(size+1))), api.ErrClash)
+		trial.WantError(t, called, trial.Of(name.AddModule(a, called, trial.One(size+1))), api.ErrClash)
 	}
 }
 
@@ -400,43 +331,43 @@ func TestAddModuleErrors(t *testing.T) {
 func TestAddModuleToMany(t *testing.T) {
 	const others = 7 // Program, main, main, its Block, Return, -, 1
 	prints := strings.Repeat("print 1; ", (api.MaxNodes-1-others)/2)
-	a := right(t, "module main { func main() int { "+prints+"return -1; } }")
+	a := trial.Right(t, "module main { func main() int { "+prints+"return -1; } }")
 	if a.Len() != api.MaxNodes-1 {
 		t.Fatal(a.Len())
 	}
-	b, e := name.AddModule(a, "one", one(100000))
+	b, e := name.AddModule(a, "one", trial.One(100000))
 	if e != api.OK || b.Len() != api.MaxNodes {
 		t.Fatalf("error %d", e)
 	}
-	wantError(t, "no room", of(name.AddModule(b, "two", one(100001))), api.ErrFull)
+	trial.WantError(t, "no room", trial.Of(name.AddModule(b, "two", trial.One(100001))), api.ErrFull)
 	if c, e := name.Rename(b, arena.Module, 100000, "two"); e != api.OK || c.Len() != api.MaxNodes {
 		t.Errorf("error %d", e)
 	}
 }
 
 func TestDropModule(t *testing.T) {
-	a := right(t, town)
-	got := of(name.DropModule(a, empty))
-	want := with(a, 1, func(n *api.Node) { n.Kids = []api.ID{k, main, z} })
+	a := trial.Right(t, town)
+	got := trial.Of(name.DropModule(a, empty))
+	want := trial.With(a, 1, func(n *api.Node) { n.Kids = []api.ID{k, main, z} })
 	want.Drop(empty)
-	wantArena(t, "empty", got, want)
-	wantText(t, "empty", got, strings.Replace(town, "module empty {\n}\n", "", 1))
+	trial.WantArena(t, "empty", got, want)
+	trial.WantText(t, "empty", got, strings.Replace(town, "module empty {\n}\n", "", 1))
 	for id, n := range a.Walk(1) {
 		switch {
 		case n.Kind != arena.Module:
-			wantError(t, "no module", of(name.DropModule(a, id)), api.ErrNone)
+			trial.WantError(t, "no module", trial.Of(name.DropModule(a, id)), api.ErrNone)
 		case id != empty:
-			wantError(t, "with functions", of(name.DropModule(a, id)), api.ErrUsed)
+			trial.WantError(t, "with functions", trial.Of(name.DropModule(a, id)), api.ErrUsed)
 		}
 	}
 	for _, id := range []api.ID{0, size + 1, 1 << 63} {
-		wantError(t, "no node", of(name.DropModule(a, id)), api.ErrNone)
+		trial.WantError(t, "no node", trial.Of(name.DropModule(a, id)), api.ErrNone)
 	}
 }
 
 // TestDropModuleAnywhere: as the first, a middle and the last one.
 func TestDropModuleAnywhere(t *testing.T) {
-	a := right(t, "module x { } module y { } module main { func main() int { return 1; } } module z { }")
+	a := trial.Right(t, "module x { } module y { } module main { func main() int { return 1; } } module z { }")
 	for path, want := range map[string]string{"x": "y main z", "y": "x main z", "z": "x y main"} {
 		b, e := name.DropModule(a, named(t, a, path))
 		if got := functions(b, 1); e != api.OK || got != want {
@@ -446,28 +377,28 @@ func TestDropModuleAnywhere(t *testing.T) {
 }
 
 func TestDropFunc(t *testing.T) {
-	a := right(t, town)
+	a := trial.Right(t, town)
 	without := func(f, module api.ID, kids ...api.ID) {
 		t.Helper()
-		want := with(a, module, func(n *api.Node) { n.Kids = kids })
+		want := trial.With(a, module, func(n *api.Node) { n.Kids = kids })
 		want.Drop(f)
-		wantArena(t, "DropFunc", of(name.DropFunc(a, f)), want)
+		trial.WantArena(t, "DropFunc", trial.Of(name.DropFunc(a, f)), want)
 	}
 	without(main2, main, mainMain, mainG) // it calls itself
 	without(zG, z)
 	for id, n := range a.Walk(1) {
 		if n.Kind != arena.Func {
-			wantError(t, "no function", of(name.DropFunc(a, id)), api.ErrNone)
+			trial.WantError(t, "no function", trial.Of(name.DropFunc(a, id)), api.ErrNone)
 		}
 	}
 	for _, id := range []api.ID{0, size + 1, 1 << 63} {
-		wantError(t, "no node", of(name.DropFunc(a, id)), api.ErrNone)
+		trial.WantError(t, "no node", trial.Of(name.DropFunc(a, id)), api.ErrNone)
 	}
-	wantError(t, "k.f", of(name.DropFunc(a, kF)), api.ErrUsed)
-	wantError(t, "main.g", of(name.DropFunc(a, mainG)), api.ErrUsed)
-	wantError(t, "main.main, which z.g calls", of(name.DropFunc(a, mainMain)), api.ErrUsed)
+	trial.WantError(t, "k.f", trial.Of(name.DropFunc(a, kF)), api.ErrUsed)
+	trial.WantError(t, "main.g", trial.Of(name.DropFunc(a, mainG)), api.ErrUsed)
+	trial.WantError(t, "main.main, which z.g calls", trial.Of(name.DropFunc(a, mainMain)), api.ErrUsed)
 	b, _ := name.DropFunc(a, zG)
-	wantError(t, "main.main", of(name.DropFunc(b, mainMain)), api.ErrNone)
+	trial.WantError(t, "main.main", trial.Of(name.DropFunc(b, mainMain)), api.ErrNone)
 }
 
 // TestDropFuncThatIsCalled: calls anywhere in another function count, also in one
@@ -486,12 +417,12 @@ func TestDropFuncThatIsCalled(t *testing.T) {
 		"do main.g(main.g(main.f(1)));":       api.ErrUsed,
 		"if true { do main.g(1); } else { } ": api.OK,
 	} {
-		a := right(t, "module main { func main() int { return 1; } func f(a int) int { print main.f((main.f(a) - 1)); return main.g(1); } func g(a int) int { "+call+" return 1; } }")
+		a := trial.Right(t, "module main { func main() int { return 1; } func f(a int) int { print main.f((main.f(a) - 1)); return main.g(1); } func g(a int) int { "+call+" return 1; } }")
 		f := named(t, a, "main.f")
-		if got := of(name.DropFunc(a, f)); want != api.OK {
-			wantError(t, call, got, want)
-		} else if _, left := got.a.Get(f); got.e != api.OK || left {
-			t.Errorf("%s: error %d", call, got.e)
+		if got := trial.Of(name.DropFunc(a, f)); want != api.OK {
+			trial.WantError(t, call, got, want)
+		} else if _, left := got.Arena.Get(f); got.Error != api.OK || left {
+			t.Errorf("%s: error %d", call, got.Error)
 		}
 	}
 }
@@ -504,17 +435,17 @@ func TestChecked(t *testing.T) {
 		"module m { func main() int { return 1; } }": api.ErrNone,
 		"": api.ErrNone,
 	} {
-		wantError(t, s, of(name.Checked(parsed(t, s))), want)
+		trial.WantError(t, s, trial.Of(name.Checked(trial.Parsed(t, s))), want)
 	}
-	a := right(t, town)
-	wantArena(t, "town", of(name.Checked(a)), a)
-	wantError(t, "nil", of(name.Checked(nil)), api.ErrForm)
-	wantError(t, "no Num", of(name.Checked(with(a, kFInt, func(n *api.Node) { n.Num = -1 }))), api.ErrForm)
-	wantError(t, "two modules z", of(name.Checked(with(a, k, func(n *api.Node) { n.Name = "z" }))), api.ErrClash)
-	wantError(t, "two modules z, and no type", of(name.Checked(with(with(a, k, func(n *api.Node) { n.Name = "z" }), kFX, func(n *api.Node) { n.Type = arena.Truth }))), api.ErrClash)
-	wantError(t, "a variable of another function", of(name.Checked(with(a, kFVar, func(n *api.Node) { n.Ref = mainGA }))), api.ErrName)
-	wantError(t, "another type", of(name.Checked(with(a, kFX, func(n *api.Node) { n.Type = arena.Truth }))), api.ErrType)
-	wantError(t, "no Main", of(name.Checked(with(a, mainMain, func(n *api.Node) { n.Name = "man" }))), api.ErrNone)
+	a := trial.Right(t, town)
+	trial.WantArena(t, "town", trial.Of(name.Checked(a)), a)
+	trial.WantError(t, "nil", trial.Of(name.Checked(nil)), api.ErrForm)
+	trial.WantError(t, "no Num", trial.Of(name.Checked(trial.With(a, kFInt, func(n *api.Node) { n.Num = -1 }))), api.ErrForm)
+	trial.WantError(t, "two modules z", trial.Of(name.Checked(trial.With(a, k, func(n *api.Node) { n.Name = "z" }))), api.ErrClash)
+	trial.WantError(t, "two modules z, and no type", trial.Of(name.Checked(trial.With(trial.With(a, k, func(n *api.Node) { n.Name = "z" }), kFX, func(n *api.Node) { n.Type = arena.Truth }))), api.ErrClash)
+	trial.WantError(t, "a variable of another function", trial.Of(name.Checked(trial.With(a, kFVar, func(n *api.Node) { n.Ref = mainGA }))), api.ErrName)
+	trial.WantError(t, "another type", trial.Of(name.Checked(trial.With(a, kFX, func(n *api.Node) { n.Type = arena.Truth }))), api.ErrType)
+	trial.WantError(t, "no Main", trial.Of(name.Checked(trial.With(a, mainMain, func(n *api.Node) { n.Name = "man" }))), api.ErrNone)
 }
 
 // wantForm makes all calls but Checked, with arguments that fit town and ones
@@ -525,15 +456,15 @@ func wantForm(t *testing.T, what string, a *arena.Arena) {
 	for _, id := range []api.ID{0, 1, k, kF, kFX, main, mainG, empty, zG, 1000} {
 		for _, to := range []string{"new", ""} {
 			for _, kind := range []byte{arena.Module, arena.Func, arena.Let, arena.Int} {
-				wantError(t, what+", Rename", of(name.Rename(a, kind, id, to)), api.ErrForm)
+				trial.WantError(t, what+", Rename", trial.Of(name.Rename(a, kind, id, to)), api.ErrForm)
 			}
-			wantError(t, what+", AddModule", of(name.AddModule(a, to, no(&times))), api.ErrForm)
-			wantError(t, what+", AddModule", of(name.AddModule(a, to, nil)), api.ErrForm)
+			trial.WantError(t, what+", AddModule", trial.Of(name.AddModule(a, to, no(&times))), api.ErrForm)
+			trial.WantError(t, what+", AddModule", trial.Of(name.AddModule(a, to, nil)), api.ErrForm)
 		}
-		wantError(t, what+", Move", of(name.Move(a, id, empty)), api.ErrForm)
-		wantError(t, what+", Move", of(name.Move(a, kF, id)), api.ErrForm)
-		wantError(t, what+", DropModule", of(name.DropModule(a, id)), api.ErrForm)
-		wantError(t, what+", DropFunc", of(name.DropFunc(a, id)), api.ErrForm)
+		trial.WantError(t, what+", Move", trial.Of(name.Move(a, id, empty)), api.ErrForm)
+		trial.WantError(t, what+", Move", trial.Of(name.Move(a, kF, id)), api.ErrForm)
+		trial.WantError(t, what+", DropModule", trial.Of(name.DropModule(a, id)), api.ErrForm)
+		trial.WantError(t, what+", DropFunc", trial.Of(name.DropFunc(a, id)), api.ErrForm)
 	}
 	if times > 0 {
 		t.Errorf("%s: fresh was called", what)
@@ -541,14 +472,14 @@ func wantForm(t *testing.T, what string, a *arena.Arena) {
 }
 
 func TestNotRight(t *testing.T) {
-	a := right(t, town)
+	a := trial.Right(t, town)
 	wantForm(t, "nil", nil)
 	wantForm(t, "only a Program", arena.New())
-	wantForm(t, "no Num", with(a, kFInt, func(n *api.Node) { n.Num = -1 }))
-	wantForm(t, "two modules z", with(a, k, func(n *api.Node) { n.Name = "z" }))
-	wantForm(t, "a variable of another function", with(a, kFVar, func(n *api.Node) { n.Ref = mainGA }))
-	wantForm(t, "another type", with(a, kFX, func(n *api.Node) { n.Type = arena.Truth }))
-	wantForm(t, "no Main", with(a, mainMain, func(n *api.Node) { n.Name = "man" }))
+	wantForm(t, "no Num", trial.With(a, kFInt, func(n *api.Node) { n.Num = -1 }))
+	wantForm(t, "two modules z", trial.With(a, k, func(n *api.Node) { n.Name = "z" }))
+	wantForm(t, "a variable of another function", trial.With(a, kFVar, func(n *api.Node) { n.Ref = mainGA }))
+	wantForm(t, "another type", trial.With(a, kFX, func(n *api.Node) { n.Type = arena.Truth }))
+	wantForm(t, "no Main", trial.With(a, mainMain, func(n *api.Node) { n.Name = "man" }))
 	b := a.Copy()
 	b.Put(1000, api.Node{Kind: arena.Module, Name: "beside"})
 	wantForm(t, "a node beside the program", b)

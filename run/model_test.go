@@ -11,6 +11,7 @@ import (
 	"hourglass/check"
 	"hourglass/grammar"
 	"hourglass/run"
+	"hourglass/trial"
 )
 
 // model runs programs by calling itself, and panics with the end that is not
@@ -142,28 +143,6 @@ func (m *model) both(sign string, left, right api.ID) int64 {
 	return value
 }
 
-// scattered returns the same program with other IDs.
-func scattered(r *rand.Rand, a *arena.Arena) *arena.Arena {
-	ids := map[api.ID]api.ID{0: 0, 1: 1}
-	taken := map[api.ID]bool{0: true, 1: true}
-	for _, id := range a.IDs()[1:] {
-		other := api.ID(0)
-		for taken[other] {
-			other = api.ID(r.Uint64() >> r.Intn(54))
-		}
-		ids[id], taken[other] = other, true
-	}
-	b := arena.New()
-	for id, n := range a.Walk(1) {
-		n.Ref = ids[n.Ref]
-		for i, kid := range n.Kids {
-			n.Kids[i] = ids[kid]
-		}
-		b.Put(ids[id], n)
-	}
-	return b
-}
-
 func TestAgainstModel(t *testing.T) {
 	r := rand.New(rand.NewSource(1))
 	ends := map[byte]int{}
@@ -181,7 +160,7 @@ func TestAgainstModel(t *testing.T) {
 		if whole.Used > 20 {
 			long++
 		}
-		wantResult(t, program, run.Run(scattered(r, a), input, 5000), whole)
+		wantResult(t, program, run.Run(trial.Scattered(r.Intn, a), input, 5000), whole)
 		for _, fuel := range []int{r.Intn(whole.Used + 1), whole.Used - 1, whole.Used} {
 			wantResult(t, program, run.Run(a, input, fuel), modelled(a, input, fuel))
 		}
