@@ -2,6 +2,7 @@ package local_test
 
 import (
 	"math"
+	"slices"
 	"strings"
 	"testing"
 
@@ -30,8 +31,8 @@ func TestInline(t *testing.T) {
 		{"let x int = a; if b { let v int = x; v = 1; } else { } return 0;", "if b { let v int = a; v = 1; } else { } return 0;"},
 	} {
 		a := trial.Right(t, around(c[0]))
-		wantBody(t, c[0], trial.Of(local.Inline(a, named(t, a, "x"), op.Fresh(1))), c[1])
-		wantBody(t, c[0], trial.Of(local.Inline(a, named(t, a, "x"), op.Fresh(math.MaxUint32))), c[1])
+		wantBody(t, c[0], trial.Of(local.Inline(a, trial.Named(t, a, "x"), op.Fresh(1))), c[1])
+		wantBody(t, c[0], trial.Of(local.Inline(a, trial.Named(t, a, "x"), op.Fresh(math.MaxUint32))), c[1])
 	}
 }
 
@@ -44,7 +45,7 @@ func TestInlinedNodes(t *testing.T) {
 	a.Put(50, api.Node{Kind: arena.Var, Ref: letX})
 	a.Put(print, api.Node{Kind: arena.Print, Kids: []api.ID{50}})
 	a.Drop(10)
-	s := source(103, 102, 101, 203, 202, 201, 303, 302, 301, 400)
+	s := trial.From(103, 102, 101, 203, 202, 201, 303, 302, 301, 400)
 	want := a.Copy()
 	for parent, id := range map[api.ID]api.ID{11: 100, 13: 200, print: 300} {
 		n, _ := want.Get(parent)
@@ -128,22 +129,19 @@ func TestInlineUnsafe(t *testing.T) {
 func TestInlineFull(t *testing.T) {
 	const body = "let x int = (a + 1); print x; return (x * x);"
 	for count := range 9 {
-		var ids []api.ID
-		for i := range count {
-			ids = append(ids, api.ID(1000+i))
-		}
+		ids := trial.Row(1000, count)
 		trial.WantError(t, "too few IDs", inline(t, body, "x", ids...), api.ErrFull)
 		for _, id := range []api.ID{0, 1, 8, 1000} {
 			if count > 0 || id != 1000 {
-				trial.WantError(t, "an ID that exists", inline(t, body, "x", append(ids, id, 2001, 2002, 2003, 2004, 2005, 2006, 2007, 2008)...), api.ErrFull)
+				trial.WantError(t, "an ID that exists", inline(t, body, "x", slices.Concat(ids, []api.ID{id}, trial.Row(2001, 8))...), api.ErrFull)
 			}
 		}
 	}
 	a := trial.Right(t, around(body))
-	trial.WantError(t, "no function", trial.Of(local.Inline(a, named(t, a, "x"), nil)), api.ErrFull)
+	trial.WantError(t, "no function", trial.Of(local.Inline(a, trial.Named(t, a, "x"), nil)), api.ErrFull)
 	wantBody(t, "just enough IDs", inline(t, body, "x", 1000, 1001, 1002, 1003, 1004, 1005, 1006, 1007, 1008), "print (a + 1); return ((a + 1) * (a + 1));")
 	unused := trial.Right(t, around("let x int = (a + 1); return 0;"))
-	wantBody(t, "no ID is needed", trial.Of(local.Inline(unused, named(t, unused, "x"), nil)), "return 0;")
+	wantBody(t, "no ID is needed", trial.Of(local.Inline(unused, trial.Named(t, unused, "x"), nil)), "return 0;")
 }
 
 // TestInlineTooDeep: a program cannot be nested more deeply than layer 9 reads.
@@ -151,10 +149,7 @@ func TestInlineTooDeep(t *testing.T) {
 	deep := func(signs int) string {
 		return "let x int = " + strings.Repeat("-", 40) + "1; print " + strings.Repeat("-", signs) + "x; return 0;"
 	}
-	var ids []api.ID
-	for i := range 41 {
-		ids = append(ids, api.ID(1000+i))
-	}
+	ids := trial.Row(1000, 41)
 	wantBody(t, "90 signs", inline(t, deep(50), "x", ids...), "print "+strings.Repeat("-", 90)+"1; return 0;")
 	trial.WantError(t, "91 signs", inline(t, deep(51), "x", ids...), api.ErrForm)
 	trial.WantError(t, "91 signs, and too few IDs", inline(t, deep(51), "x", ids[:40]...), api.ErrFull)

@@ -18,51 +18,22 @@ func around(body string) string {
 	return "module main { func f(a int, b bool) int { " + body + " } func g(z int) int { let y int = z; return y; } func main() int { return 0; } }"
 }
 
-func source(ids ...api.ID) *trial.Source {
-	return &trial.Source{IDs: ids}
-}
-
-// find returns the first expression that is printed like that.
-func find(t *testing.T, a *arena.Arena, printed string) api.ID {
-	t.Helper()
-	for id := range a.Walk(1) {
-		if got, e := text.Expr(a, id); e == api.OK && got == printed {
-			return id
-		}
-	}
-	t.Fatalf("there is no %s", printed)
-	return 0
-}
-
-// named returns the first node with a name.
-func named(t *testing.T, a *arena.Arena, name string) api.ID {
-	t.Helper()
-	for id, n := range a.Walk(1) {
-		if n.Name == name {
-			return id
-		}
-	}
-	t.Fatalf("there is no %s", name)
-	return 0
-}
-
 // wantBody expects a success, and a program around that body.
 func wantBody(t *testing.T, what string, got trial.Result, body string) {
 	t.Helper()
-	want, _ := text.Print(trial.Right(t, around(body)))
-	trial.WantText(t, what, got, want)
+	trial.WantProgram(t, what, got, around(body))
 }
 
 func extract(t *testing.T, body, e, name string, ids ...api.ID) trial.Result {
 	t.Helper()
 	a := trial.Right(t, around(body))
-	return trial.Of(local.Extract(a, find(t, a, e), name, source(ids...).Next))
+	return trial.Of(local.Extract(a, trial.Find(t, a, e), name, trial.From(ids...).Next))
 }
 
 func inline(t *testing.T, body, let string, ids ...api.ID) trial.Result {
 	t.Helper()
 	a := trial.Right(t, around(body))
-	return trial.Of(local.Inline(a, named(t, a, let), source(ids...).Next))
+	return trial.Of(local.Inline(a, trial.Named(t, a, let), trial.From(ids...).Next))
 }
 
 func TestExample(t *testing.T) {
@@ -112,7 +83,7 @@ func TestExtractedNodes(t *testing.T) {
 	a := trial.Right(t, around("print (a + 1); return 0;"))
 	const block, print, sum = 6, 7, 8
 	for _, ids := range [][]api.ID{{1000, 1001}, {1001, 1000}, {math.MaxUint64, 500}} {
-		s := source(append(ids, 2000)...)
+		s := trial.From(append(ids, 2000)...)
 		want := trial.With(a, block, func(n *api.Node) { n.Kids = append([]api.ID{ids[0]}, n.Kids...) })
 		want.Put(ids[0], api.Node{Kind: arena.Let, Name: "x", Type: arena.Number, Kids: []api.ID{sum}})
 		want.Put(print, api.Node{Kind: arena.Print, Kids: []api.ID{ids[1]}})
@@ -127,23 +98,9 @@ func TestExtractedNodes(t *testing.T) {
 // TestExtractWithSmallIDs: the new nodes may have smaller IDs than all others.
 func TestExtractWithSmallIDs(t *testing.T) {
 	for _, c := range extractions() {
-		parsed := trial.Right(t, around(c[0]))
-		moved := func(id api.ID) api.ID {
-			if id > 1 {
-				id += 5000
-			}
-			return id
-		}
-		a := arena.New()
-		for id, n := range parsed.Walk(1) {
-			for i, kid := range n.Kids {
-				n.Kids[i] = moved(kid)
-			}
-			n.Ref = moved(n.Ref)
-			a.Put(moved(id), n)
-		}
-		for _, s := range []*trial.Source{source(2, 3), source(3, 2), source(2, 9000), source(9000, 2)} {
-			wantBody(t, c[1]+" in "+c[0], trial.Of(local.Extract(a, find(t, a, c[1]), "x", s.Next)), c[2])
+		a := trial.Moved(trial.Right(t, around(c[0])), 5000)
+		for _, s := range []*trial.Source{trial.From(2, 3), trial.From(3, 2), trial.From(2, 9000), trial.From(9000, 2)} {
+			wantBody(t, c[1]+" in "+c[0], trial.Of(local.Extract(a, trial.Find(t, a, c[1]), "x", s.Next)), c[2])
 		}
 	}
 }
@@ -162,8 +119,8 @@ func TestExtractErrors(t *testing.T) {
 				unused = api.ErrUnsafe
 			}
 		}
-		s := source()
-		for _, name := range []string{"", "if", "1", "a b", "é", strings.Repeat("x", api.MaxName+1)} {
+		s := trial.From()
+		for _, name := range trial.NoNames() {
 			trial.WantError(t, "no name", trial.Of(local.Extract(a, id, name, s.Next)), unnamed)
 			trial.WantError(t, "no name", trial.Of(local.Extract(a, id, name, nil)), unnamed)
 		}
@@ -205,7 +162,7 @@ func TestExtractFull(t *testing.T) {
 		trial.WantError(t, what+", and a clash", extract(t, body, "(a + 1)", "a", ids...), api.ErrFull)
 	}
 	a := trial.Right(t, around(body))
-	trial.WantError(t, "no function", trial.Of(local.Extract(a, find(t, a, "(a + 1)"), "x", nil)), api.ErrFull)
+	trial.WantError(t, "no function", trial.Of(local.Extract(a, trial.Find(t, a, "(a + 1)"), "x", nil)), api.ErrFull)
 }
 
 func TestExtractClash(t *testing.T) {
@@ -218,38 +175,29 @@ func TestExtractClash(t *testing.T) {
 	}
 }
 
-// crowd is a program with so many nodes: an even number.
-func crowd(t *testing.T, size int) *arena.Arena {
-	t.Helper()
-	const others = 12 // four down to the block, the Let, two with x, and the Return have two each
-	a := trial.Right(t, "module main { func main() int { let x int = 1; print x; print x; "+strings.Repeat("print 1; ", (size-others)/2)+"return 0; } }")
-	if a.Len() != size {
-		t.Fatal(a.Len())
-	}
-	return a
-}
+const twice = "module main { func main() int { let x int = 1; print x; print x;"
 
 func TestRoom(t *testing.T) {
 	for size, want := range map[int]api.Errno{api.MaxNodes - 2: api.OK, api.MaxNodes: api.ErrFull} {
-		a := crowd(t, size)
-		b, e := local.Extract(a, find(t, a, "1"), "y", source(30000, 30001).Next)
+		a := trial.Crowd(t, twice, size)
+		b, e := local.Extract(a, trial.Find(t, a, "1"), "y", trial.From(30000, 30001).Next)
 		if e != want || (e == api.OK) != (b != nil) {
 			t.Errorf("Extract of %d nodes: error %d", size, e)
 		}
 		// Each clone is made before the variable that it replaces is removed.
-		b, e = local.Inline(a, named(t, a, "x"), source(30000, 30001).Next)
+		b, e = local.Inline(a, trial.Named(t, a, "x"), trial.From(30000, 30001).Next)
 		if e != want || (e == api.OK) != (b != nil) {
 			t.Errorf("Inline in %d nodes: error %d", size, e)
 		}
 	}
-	a := crowd(t, api.MaxNodes-2)
-	b, _ := local.Extract(a, find(t, a, "1"), "y", source(30000, 30001).Next)
+	a := trial.Crowd(t, twice, api.MaxNodes-2)
+	b, _ := local.Extract(a, trial.Find(t, a, "1"), "y", trial.From(30000, 30001).Next)
 	if b.Len() != api.MaxNodes {
 		t.Error(b.Len())
 	}
-	trial.WantError(t, "no room", trial.Of(local.Inline(b, 30000, source(30002).Next)), api.ErrFull)
-	c := trial.Right(t, "module main { func main() int { let x int = 1; "+strings.Repeat("print 1; ", (api.MaxNodes-8)/2)+"return 0; } }")
-	if d, e := local.Inline(c, named(t, c, "x"), nil); e != api.OK || d.Len() != c.Len()-2 {
+	trial.WantError(t, "no room", trial.Of(local.Inline(b, 30000, trial.From(30002).Next)), api.ErrFull)
+	c := trial.Crowd(t, "module main { func main() int { let x int = 1;", api.MaxNodes)
+	if d, e := local.Inline(c, trial.Named(t, c, "x"), nil); e != api.OK || d.Len() != c.Len()-2 {
 		t.Errorf("Inline without new nodes: error %d", e)
 	}
 }
@@ -257,47 +205,29 @@ func TestRoom(t *testing.T) {
 // TestOddRoom: there is room for one new node. That is too little for a Let and a
 // Var, but enough for one clone after the other.
 func TestOddRoom(t *testing.T) {
-	p := trial.Right(t, "module main { func main() int { let x int = 1; print x; print x; print -1; "+strings.Repeat("print 1; ", (api.MaxNodes-16)/2)+"return 0; } }")
-	if p.Len() != api.MaxNodes-1 {
-		t.Fatal(p.Len())
-	}
-	trial.WantError(t, "Extract", trial.Of(local.Extract(p, find(t, p, "1"), "y", source(30000, 30001).Next)), api.ErrFull)
-	q, e := local.Inline(p, named(t, p, "x"), source(30000, 30001).Next)
+	p := trial.Crowd(t, twice, api.MaxNodes-1)
+	trial.WantError(t, "Extract", trial.Of(local.Extract(p, trial.Find(t, p, "1"), "y", trial.From(30000, 30001).Next)), api.ErrFull)
+	q, e := local.Inline(p, trial.Named(t, p, "x"), trial.From(30000, 30001).Next)
 	if e != api.OK || q.Len() != p.Len()-2 {
 		t.Errorf("Inline: error %d", e)
 	}
 }
 
-// wantForm makes both calls, with arguments that fit and ones that do not.
-func wantForm(t *testing.T, what string, a *arena.Arena, let, e api.ID) {
-	t.Helper()
-	s := source()
-	for _, id := range []api.ID{0, 1, let, e, 1000} {
-		trial.WantError(t, what, trial.Of(local.Extract(a, id, "v", s.Next)), api.ErrForm)
-		trial.WantError(t, what, trial.Of(local.Extract(a, id, "", nil)), api.ErrForm)
-		trial.WantError(t, what, trial.Of(local.Inline(a, id, s.Next)), api.ErrForm)
-		trial.WantError(t, what, trial.Of(local.Inline(a, id, nil)), api.ErrForm)
+// TestNotRight makes both calls, with arguments that fit and ones that do not.
+func TestNotRight(t *testing.T) {
+	program := around("let u int = 1; print (u + a); return 0;")
+	a := trial.Right(t, program)
+	let, sum := trial.Named(t, a, "u"), trial.Find(t, a, "(u + a)")
+	s := trial.From()
+	for _, w := range trial.Wrongs(t, program) {
+		for _, id := range []api.ID{0, 1, let, sum, 1000} {
+			trial.WantError(t, w.Why, trial.Of(local.Extract(w.Arena, id, "v", s.Next)), api.ErrForm)
+			trial.WantError(t, w.Why, trial.Of(local.Extract(w.Arena, id, "", nil)), api.ErrForm)
+			trial.WantError(t, w.Why, trial.Of(local.Inline(w.Arena, id, s.Next)), api.ErrForm)
+			trial.WantError(t, w.Why, trial.Of(local.Inline(w.Arena, id, nil)), api.ErrForm)
+		}
 	}
 	if s.Asked > 0 {
-		t.Errorf("%s: fresh was called", what)
+		t.Error("fresh was called")
 	}
-}
-
-func TestNotRight(t *testing.T) {
-	a := trial.Right(t, around("let x int = 1; print (x + a); return 0;"))
-	x, sum := named(t, a, "x"), find(t, a, "(x + a)")
-	main := named(t, a, "main") // the module
-	wantForm(t, "nil", nil, x, sum)
-	wantForm(t, "only a Program", arena.New(), x, sum)
-	wantForm(t, "a Num", trial.With(a, x, func(n *api.Node) { n.Num = 1 }), x, sum)
-	wantForm(t, "a clash", trial.With(a, x, func(n *api.Node) { n.Name = "a" }), x, sum)
-	wantForm(t, "a variable of another function", trial.With(a, sum+1, func(n *api.Node) { n.Ref = named(t, a, "z") }), x, sum)
-	wantForm(t, "another type", trial.With(a, x, func(n *api.Node) { n.Type = arena.Truth }), x, sum)
-	wantForm(t, "no Main", trial.With(a, main, func(n *api.Node) { n.Name = "man" }), x, sum)
-	b := a.Copy()
-	b.Put(1000, api.Node{Kind: arena.Int})
-	wantForm(t, "a node beside the program", b, x, sum)
-	b = a.Copy()
-	b.Drop(1)
-	wantForm(t, "no node", b, x, sum)
 }

@@ -36,34 +36,17 @@ func TestResultsAreNew(t *testing.T) {
 // is not right.
 func TestGarbage(t *testing.T) {
 	r := rand.New(rand.NewSource(1))
-	for range 300 {
-		a := trial.Right(t, town)
-		some := func() api.ID { return api.ID(r.Intn(size + 2)) }
-		for range 1 + r.Intn(4) {
-			id := some()
-			n, _ := a.Get(some())
-			if r.Intn(2) == 0 {
-				n.Kids = append(n.Kids, some(), some())
-			}
-			a.Put(id, n)
+	trial.WantForm(t, r.Intn, town, func(a *arena.Arena, some func() api.ID) map[string]trial.Result {
+		b, e := name.Checked(a)
+		if e != check.Right(a) || (b == nil) != (e != api.OK) {
+			t.Errorf("Checked: error %d", e)
 		}
-		wrong := check.Right(a) != api.OK
-		for what, got := range map[string]trial.Result{
+		return map[string]trial.Result{
 			"Rename":     trial.Of(name.Rename(a, byte(r.Intn(8)), some(), "new")),
 			"Move":       trial.Of(name.Move(a, some(), some())),
 			"AddModule":  trial.Of(name.AddModule(a, "new", trial.One(some()))),
 			"DropModule": trial.Of(name.DropModule(a, some())),
 			"DropFunc":   trial.Of(name.DropFunc(a, some())),
-		} {
-			if wrong {
-				trial.WantError(t, what, got, api.ErrForm)
-			}
-			if (got.Arena == nil) != (got.Error != api.OK) {
-				t.Errorf("%s: error %d with %v", what, got.Error, got.Arena)
-			}
 		}
-		if b, e := name.Checked(a); e != check.Right(a) || (b == nil) != wrong {
-			t.Errorf("Checked: error %d", e)
-		}
-	}
+	})
 }

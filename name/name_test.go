@@ -159,7 +159,7 @@ func TestRenameErrors(t *testing.T) {
 			trial.WantError(t, "no node, no name", trial.Of(name.Rename(a, kind, id, "")), api.ErrNone)
 		}
 	}
-	for _, to := range []string{"", "if", "1", "a b", "a.b", "a ", "é", "\x00", strings.Repeat("x", api.MaxName+1)} {
+	for _, to := range trial.NoNames() {
 		trial.WantError(t, to, trial.Of(name.Rename(a, arena.Let, kFX, to)), api.ErrName)
 	}
 	fails := func(kind byte, path, to string, want api.Errno) {
@@ -302,7 +302,7 @@ func TestAddModuleTakesOneID(t *testing.T) {
 
 func TestAddModuleErrors(t *testing.T) {
 	a := trial.Right(t, town)
-	for _, called := range []string{"", "if", "1", "a b", "a.b", "é", strings.Repeat("x", api.MaxName+1)} {
+	for _, called := range trial.NoNames() {
 		times := 0
 		trial.WantError(t, called, trial.Of(name.AddModule(a, called, no(&times))), api.ErrName)
 		trial.WantError(t, called, trial.Of(name.AddModule(a, called, nil)), api.ErrName)
@@ -329,12 +329,7 @@ func TestAddModuleErrors(t *testing.T) {
 
 // TestAddModuleToMany: there is room for MaxNodes nodes.
 func TestAddModuleToMany(t *testing.T) {
-	const others = 7 // Program, main, main, its Block, Return, -, 1
-	prints := strings.Repeat("print 1; ", (api.MaxNodes-1-others)/2)
-	a := trial.Right(t, "module main { func main() int { "+prints+"return -1; } }")
-	if a.Len() != api.MaxNodes-1 {
-		t.Fatal(a.Len())
-	}
+	a := trial.Crowd(t, "module main { func main() int {", api.MaxNodes-1)
 	b, e := name.AddModule(a, "one", trial.One(100000))
 	if e != api.OK || b.Len() != api.MaxNodes {
 		t.Fatalf("error %d", e)
@@ -472,18 +467,7 @@ func wantForm(t *testing.T, what string, a *arena.Arena) {
 }
 
 func TestNotRight(t *testing.T) {
-	a := trial.Right(t, town)
-	wantForm(t, "nil", nil)
-	wantForm(t, "only a Program", arena.New())
-	wantForm(t, "no Num", trial.With(a, kFInt, func(n *api.Node) { n.Num = -1 }))
-	wantForm(t, "two modules z", trial.With(a, k, func(n *api.Node) { n.Name = "z" }))
-	wantForm(t, "a variable of another function", trial.With(a, kFVar, func(n *api.Node) { n.Ref = mainGA }))
-	wantForm(t, "another type", trial.With(a, kFX, func(n *api.Node) { n.Type = arena.Truth }))
-	wantForm(t, "no Main", trial.With(a, mainMain, func(n *api.Node) { n.Name = "man" }))
-	b := a.Copy()
-	b.Put(1000, api.Node{Kind: arena.Module, Name: "beside"})
-	wantForm(t, "a node beside the program", b)
-	b = a.Copy()
-	b.Drop(1)
-	wantForm(t, "no node", b)
+	for _, w := range trial.Wrongs(t, town) {
+		wantForm(t, w.Why, w.Arena)
+	}
 }

@@ -16,19 +16,6 @@ import (
 // plus is the number of the sign.
 const plus = 1
 
-func fresh(ids ...api.ID) *trial.Source {
-	return &trial.Source{IDs: ids}
-}
-
-// counting returns the IDs from one on.
-func counting(from api.ID, count int) *trial.Source {
-	s := &trial.Source{}
-	for i := range count {
-		s.IDs = append(s.IDs, from+api.ID(i))
-	}
-	return s
-}
-
 func TestMake(t *testing.T) {
 	nodes := []api.Node{
 		{},
@@ -39,7 +26,7 @@ func TestMake(t *testing.T) {
 	for _, n := range nodes {
 		for _, id := range []api.ID{last + 1, 1000, math.MaxUint64} {
 			p := right(t)
-			s := fresh(id, 7)
+			s := trial.From(id, 7)
 			got, ok := site.Make(p, n, s.Next)
 			want := right(t)
 			want.Put(id, n)
@@ -69,7 +56,7 @@ func TestMakeFails(t *testing.T) {
 	p := right(t)
 	next := map[string]func() (api.ID, bool){
 		"no function":       nil,
-		"no ID":             fresh().Next,
+		"no ID":             trial.From().Next,
 		"an ID and false":   func() (api.ID, bool) { return 1000, false },
 		"the ID 0":          trial.One(0),
 		"the root's":        trial.One(1),
@@ -94,7 +81,7 @@ func TestMakeFails(t *testing.T) {
 func TestExample(t *testing.T) {
 	p := trial.Right(t, "module main { func main() int { return -2; } func f(a int, b int) int { return (a + b); } }")
 	// 7 is the 2, 9 the parameter a, 13 is (a + b)
-	id, ok := site.Clone(p, 13, map[api.ID]api.ID{9: 7}, counting(100, 10).Next)
+	id, ok := site.Clone(p, 13, map[api.ID]api.ID{9: 7}, trial.From(trial.Row(100, 10)...).Next)
 	if !ok || id != 102 || !site.Replace(p, 13, id) {
 		t.Fatal(id, ok)
 	}
@@ -125,26 +112,26 @@ func wantClone(t *testing.T, id api.ID, with map[api.ID]api.ID, s *trial.Source,
 
 // TestClone: the IDs tell in which order the nodes are created.
 func TestClone(t *testing.T) {
-	wantClone(t, one, nil, fresh(100), clone{100: {Kind: arena.Int, Num: 1}})
-	wantClone(t, readA, nil, fresh(100), clone{100: {Kind: arena.Var, Ref: a}})
-	wantClone(t, b, nil, fresh(100), clone{100: {Kind: arena.Param, Name: "b", Type: arena.Number}})
-	wantClone(t, second, nil, fresh(100), clone{100: {Kind: arena.Block}})
-	wantClone(t, ab, nil, fresh(300, 100, 200, 50), clone{
+	wantClone(t, one, nil, trial.From(100), clone{100: {Kind: arena.Int, Num: 1}})
+	wantClone(t, readA, nil, trial.From(100), clone{100: {Kind: arena.Var, Ref: a}})
+	wantClone(t, b, nil, trial.From(100), clone{100: {Kind: arena.Param, Name: "b", Type: arena.Number}})
+	wantClone(t, second, nil, trial.From(100), clone{100: {Kind: arena.Block}})
+	wantClone(t, ab, nil, trial.From(300, 100, 200, 50), clone{
 		300: {Kind: arena.Var, Ref: a},
 		100: {Kind: arena.Var, Ref: b},
 		200: {Kind: arena.Bin, Num: plus, Kids: []api.ID{300, 100}},
 	})
-	wantClone(t, returned, nil, fresh(300, 100, 200), clone{
+	wantClone(t, returned, nil, trial.From(300, 100, 200), clone{
 		300: {Kind: arena.Var, Ref: letX},
 		100: {Kind: arena.Neg, Kids: []api.ID{300}},
 		200: {Kind: arena.Return, Kids: []api.ID{100}},
 	})
-	wantClone(t, call, map[api.ID]api.ID{}, fresh(300, 100, 200), clone{
+	wantClone(t, call, map[api.ID]api.ID{}, trial.From(300, 100, 200), clone{
 		300: {Kind: arena.Var, Ref: b},
 		100: {Kind: arena.Var, Ref: a},
 		200: {Kind: arena.Call, Ref: f, Kids: []api.ID{300, 100}},
 	})
-	wantClone(t, choice, nil, counting(100, 9), clone{
+	wantClone(t, choice, nil, trial.From(trial.Row(100, 9)...), clone{
 		100: {Kind: arena.Bool, Num: 1},
 		101: {Kind: arena.Var, Ref: letX},
 		102: {Kind: arena.Print, Kids: []api.ID{101}},
@@ -153,7 +140,7 @@ func TestClone(t *testing.T) {
 		105: {Kind: arena.If, Kids: []api.ID{100, 103, 104}},
 	})
 	// What refers to a node that is cloned, too, still refers to that node.
-	wantClone(t, f, nil, counting(100, 20), clone{
+	wantClone(t, f, nil, trial.From(trial.Row(100, 20)...), clone{
 		100: {Kind: arena.Param, Name: "a", Type: arena.Number},
 		101: {Kind: arena.Param, Name: "b", Type: arena.Number},
 		102: {Kind: arena.Var, Ref: a},
@@ -170,9 +157,9 @@ func TestClone(t *testing.T) {
 }
 
 func TestCloneWith(t *testing.T) {
-	wantClone(t, readA, map[api.ID]api.ID{a: one}, fresh(100), clone{100: {Kind: arena.Int, Num: 1}})
-	wantClone(t, readA, map[api.ID]api.ID{b: one}, fresh(100), clone{100: {Kind: arena.Var, Ref: a}})
-	wantClone(t, ab, map[api.ID]api.ID{b: sum}, counting(100, 9), clone{
+	wantClone(t, readA, map[api.ID]api.ID{a: one}, trial.From(100), clone{100: {Kind: arena.Int, Num: 1}})
+	wantClone(t, readA, map[api.ID]api.ID{b: one}, trial.From(100), clone{100: {Kind: arena.Var, Ref: a}})
+	wantClone(t, ab, map[api.ID]api.ID{b: sum}, trial.From(trial.Row(100, 9)...), clone{
 		100: {Kind: arena.Var, Ref: a},
 		101: {Kind: arena.Int, Num: 1},
 		102: {Kind: arena.Int, Num: 2},
@@ -180,7 +167,7 @@ func TestCloneWith(t *testing.T) {
 		104: {Kind: arena.Bin, Num: plus, Kids: []api.ID{100, 103}},
 	})
 	// Each Var gets a clone of its own.
-	wantClone(t, call, map[api.ID]api.ID{a: minus, b: minus, letX: one}, counting(100, 9), clone{
+	wantClone(t, call, map[api.ID]api.ID{a: minus, b: minus, letX: one}, trial.From(trial.Row(100, 9)...), clone{
 		100: {Kind: arena.Var, Ref: letX},
 		101: {Kind: arena.Neg, Kids: []api.ID{100}},
 		102: {Kind: arena.Var, Ref: letX},
@@ -188,32 +175,32 @@ func TestCloneWith(t *testing.T) {
 		104: {Kind: arena.Call, Ref: f, Kids: []api.ID{101, 103}},
 	})
 	// What a Var is mapped to is cloned as it is, also if there are keys in it.
-	wantClone(t, ab, map[api.ID]api.ID{a: readB, b: readA}, counting(100, 9), clone{
+	wantClone(t, ab, map[api.ID]api.ID{a: readB, b: readA}, trial.From(trial.Row(100, 9)...), clone{
 		100: {Kind: arena.Var, Ref: b},
 		101: {Kind: arena.Var, Ref: a},
 		102: {Kind: arena.Bin, Num: plus, Kids: []api.ID{100, 101}},
 	})
-	wantClone(t, ab, map[api.ID]api.ID{a: ab, b: three}, counting(100, 9), clone{
+	wantClone(t, ab, map[api.ID]api.ID{a: ab, b: three}, trial.From(trial.Row(100, 9)...), clone{
 		100: {Kind: arena.Var, Ref: a},
 		101: {Kind: arena.Var, Ref: b},
 		102: {Kind: arena.Bin, Num: plus, Kids: []api.ID{100, 101}},
 		103: {Kind: arena.Int, Num: 3},
 		104: {Kind: arena.Bin, Num: plus, Kids: []api.ID{102, 103}},
 	})
-	wantClone(t, readA, map[api.ID]api.ID{a: readA}, fresh(100), clone{100: {Kind: arena.Var, Ref: a}})
+	wantClone(t, readA, map[api.ID]api.ID{a: readA}, trial.From(100), clone{100: {Kind: arena.Var, Ref: a}})
 	// Only Vars are replaced: not an Assign, a Call, or the keys themselves.
-	wantClone(t, assign, map[api.ID]api.ID{letX: three, assign: one, assign + 2: one}, counting(100, 9), clone{
+	wantClone(t, assign, map[api.ID]api.ID{letX: three, assign: one, assign + 2: one}, trial.From(trial.Row(100, 9)...), clone{
 		100: {Kind: arena.Int, Num: 3},
 		101: {Kind: arena.Int, Num: 1},
 		102: {Kind: arena.Bin, Num: plus, Kids: []api.ID{100, 101}},
 		103: {Kind: arena.Assign, Ref: letX, Kids: []api.ID{102}},
 	})
-	wantClone(t, call, map[api.ID]api.ID{f: one, call: one, a: one, 0: three}, counting(100, 9), clone{
+	wantClone(t, call, map[api.ID]api.ID{f: one, call: one, a: one, 0: three}, trial.From(trial.Row(100, 9)...), clone{
 		100: {Kind: arena.Var, Ref: b},
 		101: {Kind: arena.Int, Num: 1},
 		102: {Kind: arena.Call, Ref: f, Kids: []api.ID{100, 101}},
 	})
-	wantClone(t, three, map[api.ID]api.ID{three: one, 0: one}, fresh(100), clone{100: {Kind: arena.Int, Num: 3}})
+	wantClone(t, three, map[api.ID]api.ID{three: one, 0: one}, trial.From(100), clone{100: {Kind: arena.Int, Num: 3}})
 }
 
 // wantOldNodes expects that nothing is changed, but that nodes with some of the
@@ -236,13 +223,13 @@ func TestCloneFails(t *testing.T) {
 	for id, size := range map[api.ID]int{one: 1, sum: 3, call: 3, returned: 3, choice: 6, f: 12, letX: 4} {
 		for count := range size {
 			p := right(t)
-			s := counting(100, count)
+			s := trial.From(trial.Row(100, count)...)
 			if got, ok := site.Clone(p, id, nil, s.Next); got != 0 || ok || s.Asked != count+1 {
 				t.Errorf("Clone of %d with %d IDs: %d, %v, asked %d times", id, count, got, ok, s.Asked)
 			}
 			wantOldNodes(t, p, right(t), s.IDs)
 			p = right(t)
-			s = counting(100, size)
+			s = trial.From(trial.Row(100, size)...)
 			for _, exists := range []api.ID{1, id, last, s.IDs[0], 0} {
 				s.Asked, s.IDs[count] = 0, exists
 				if got, ok := site.Clone(p, id, nil, s.Next); (got != 0 || ok) && (exists != 100 || count > 0) {
@@ -254,11 +241,11 @@ func TestCloneFails(t *testing.T) {
 	}
 	for _, id := range nowhere() {
 		p := right(t)
-		if got, ok := site.Clone(p, id, map[api.ID]api.ID{id: one}, counting(100, 9).Next); got != 0 || ok || !arena.Same(p, right(t)) {
+		if got, ok := site.Clone(p, id, map[api.ID]api.ID{id: one}, trial.From(trial.Row(100, 9)...).Next); got != 0 || ok || !arena.Same(p, right(t)) {
 			t.Errorf("Clone of %d: %d, %v", id, got, ok)
 		}
 		// No expression is mapped to: the call only has to end.
-		site.Clone(p, ab, map[api.ID]api.ID{a: id}, counting(100, 9).Next)
+		site.Clone(p, ab, map[api.ID]api.ID{a: id}, trial.From(trial.Row(100, 9)...).Next)
 	}
 }
 
@@ -267,7 +254,7 @@ func TestCloneFails(t *testing.T) {
 func TestCloneApart(t *testing.T) {
 	p := right(t)
 	site.Remove(p, ab)
-	s := counting(100, 9)
+	s := trial.From(trial.Row(100, 9)...)
 	if id, ok := site.Clone(p, ab, map[api.ID]api.ID{a: sum}, s.Next); id != 104 || !ok {
 		t.Error(id, ok)
 	}
@@ -275,7 +262,7 @@ func TestCloneApart(t *testing.T) {
 
 	p = right(t)
 	site.Replace(p, two, one)
-	s = counting(100, 9)
+	s = trial.From(trial.Row(100, 9)...)
 	if id, ok := site.Clone(p, sum, nil, s.Next); id != 102 || !ok {
 		t.Error(id, ok)
 	}
@@ -284,7 +271,7 @@ func TestCloneApart(t *testing.T) {
 	for _, ring := range []api.ID{sum, letX, body, 1} {
 		p = right(t)
 		site.Replace(p, two, ring)
-		s = counting(100, 9)
+		s = trial.From(trial.Row(100, 9)...)
 		if id, ok := site.Clone(p, sum, nil, s.Next); id != 0 || ok {
 			t.Error(id, ok)
 		}
@@ -292,7 +279,7 @@ func TestCloneApart(t *testing.T) {
 	}
 	p = right(t)
 	site.Replace(p, readB, ab)
-	if id, ok := site.Clone(p, call, map[api.ID]api.ID{a: ab}, counting(100, 9).Next); id != 0 || ok {
+	if id, ok := site.Clone(p, call, map[api.ID]api.ID{a: ab}, trial.From(trial.Row(100, 9)...).Next); id != 0 || ok {
 		t.Error(id, ok)
 	}
 }
@@ -333,7 +320,7 @@ func TestMemory(t *testing.T) {
 		t.Error("the argument has become", kids)
 	}
 	with := map[api.ID]api.ID{a: sum, b: one}
-	site.Clone(p, ab, with, counting(200, 9).Next)
+	site.Clone(p, ab, with, trial.From(trial.Row(200, 9)...).Next)
 	if len(with) != 2 || with[a] != sum || with[b] != one {
 		t.Error("the argument has become", with)
 	}

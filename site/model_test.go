@@ -18,18 +18,6 @@ type model struct {
 	trial.Nodes
 }
 
-// set gives a node other children.
-func (m model) set(id api.ID, kids []api.ID) {
-	n := m.Nodes[id]
-	n.Kids = kids
-	m.Nodes[id] = n
-}
-
-func (m model) has(id api.ID) bool {
-	_, ok := m.Nodes[id]
-	return ok
-}
-
 func (m model) statement(id api.ID) place {
 	var passed []api.ID
 	for id != 0 && !slices.Contains(passed, id) {
@@ -44,22 +32,20 @@ func (m model) statement(id api.ID) place {
 }
 
 func (m model) replace(old, id api.ID) bool {
-	parent, at := m.Parent(old)
-	if parent == 0 || !m.has(id) {
+	parent, _ := m.Parent(old)
+	if parent == 0 || !m.Has(id) {
 		return false
 	}
-	kids := slices.Clone(m.Nodes[parent].Kids)
-	kids[at] = id
-	m.set(parent, kids)
+	m.Replace(old, id)
 	return true
 }
 
 func (m model) insert(under api.ID, at int, id api.ID) bool {
 	kids := m.Nodes[under].Kids
-	if !m.has(under) || !m.has(id) || at < 0 || at > len(kids) {
+	if !m.Has(under) || !m.Has(id) || at < 0 || at > len(kids) {
 		return false
 	}
-	m.set(under, slices.Concat(kids[:at], []api.ID{id}, kids[at:]))
+	m.Set(under, slices.Concat(kids[:at], []api.ID{id}, kids[at:])...)
 	return true
 }
 
@@ -74,7 +60,7 @@ func (m model) remove(id api.ID) bool {
 			kids = append(kids, kid)
 		}
 	}
-	m.set(parent, kids)
+	m.Set(parent, kids...)
 	return true
 }
 
@@ -96,35 +82,6 @@ func (m model) free(id api.ID) []api.ID {
 	}
 	down(id)
 	return l
-}
-
-func (m model) make(n api.Node, s *trial.Source) (api.ID, bool) {
-	id, ok := s.Next()
-	if !ok || id == 0 || m.has(id) {
-		return 0, false
-	}
-	m.Nodes[id] = n
-	return id, true
-}
-
-func (m model) clone(id api.ID, with map[api.ID]api.ID, s *trial.Source, above ...api.ID) (api.ID, bool) {
-	n := m.Nodes[id]
-	if !m.has(id) || slices.Contains(above, id) {
-		return 0, false
-	}
-	if n.Kind == arena.Var && with[n.Ref] != 0 {
-		return m.clone(with[n.Ref], nil, s)
-	}
-	var kids []api.ID
-	for _, kid := range n.Kids {
-		clone, ok := m.clone(kid, with, s, append(above, id)...)
-		if !ok {
-			return 0, false
-		}
-		kids = append(kids, clone)
-	}
-	n.Kids = kids
-	return m.make(n, s)
 }
 
 // changer makes random calls, of an arena and of its model.
@@ -199,7 +156,7 @@ func (c changer) change(t *testing.T) {
 		n, _ := c.a.Get(x)
 		s, other := c.sources()
 		got, ok := site.Make(c.a, n, s.Next)
-		want, wanted := c.m.make(n, other)
+		want, wanted := c.m.Add(n, other)
 		c.want(t, "Make", ok, wanted)
 		c.want(t, "Make's ID", got == want, true)
 	case 4, 5, 6:
@@ -207,7 +164,7 @@ func (c changer) change(t *testing.T) {
 		s, other := c.sources()
 		before := c.a.Copy()
 		got, ok := site.Clone(c.a, x, with, s.Next)
-		want, wanted := c.m.clone(x, with, other)
+		want, wanted := c.m.Clone(x, with, other)
 		c.want(t, "Clone", ok, wanted)
 		c.want(t, "Clone's ID", got == want, true)
 		if !ok { // which nodes have been created is not promised
@@ -266,7 +223,7 @@ func TestGarbage(t *testing.T) {
 		for range 10 {
 			site.Statement(a, some())
 			site.Free(a, some())
-			site.Clone(a, some(), map[api.ID]api.ID{some(): some(), some(): some()}, counting(some(), 300).Next)
+			site.Clone(a, some(), map[api.ID]api.ID{some(): some(), some(): some()}, trial.From(trial.Row(some(), 300)...).Next)
 			site.Make(a, api.Node{Kids: []api.ID{some()}}, trial.One(some()))
 			site.Replace(a, some(), some())
 			site.Insert(a, some(), r.Intn(5)-1, some())
@@ -284,7 +241,7 @@ func TestGreatClones(t *testing.T) {
 		a.Put(id, api.Node{Kind: arena.Bin, Num: 1, Kids: []api.ID{id + 1, id + 1}})
 	}
 	a.Put(length, api.Node{Kind: arena.Int})
-	if id, ok := site.Clone(a, 2, nil, counting(100000, api.MaxNodes+1).Next); id != 0 || ok || a.Len() != api.MaxNodes {
+	if id, ok := site.Clone(a, 2, nil, trial.From(trial.Row(100000, api.MaxNodes+1)...).Next); id != 0 || ok || a.Len() != api.MaxNodes {
 		t.Error(id, ok, a.Len())
 	}
 }

@@ -37,3 +37,22 @@ func wantFollowed(t T, a, b *arena.Arena, input []int64, fuel, times int) {
 		t.Errorf("input %d, %d times the fuel: %+v, want %+v", input, times, got, want)
 	}
 }
+
+// WantSameRuns expects that all that a run tells is the same of two programs,
+// with an input and some fuels.
+func WantSameRuns(t T, below func(n int) int, a, b *arena.Arena) {
+	t.Helper()
+	input := Input(below)
+	whole := wantSameRun(t, a, b, input, 3000)
+	wantSameRun(t, a, b, input, whole.Used-1)
+	wantSameRun(t, a, b, input, below(whole.Used+1))
+}
+
+func wantSameRun(t T, a, b *arena.Arena, input []int64, fuel int) run.Result {
+	t.Helper()
+	want, got := run.Run(a, input, fuel), run.Run(b, input, fuel)
+	if !run.Same(got, want) || got.Used != want.Used || got.Read != want.Read {
+		t.Errorf("input %d, fuel %d: %+v, want %+v", input, fuel, got, want)
+	}
+	return want
+}

@@ -2,7 +2,7 @@
 package trial
 
 import (
-	"slices"
+	"strings"
 
 	"hourglass/api"
 	"hourglass/arena"
@@ -14,6 +14,7 @@ import (
 // T is a *testing.T, of which no more is needed.
 type T interface {
 	Helper()
+	Failed() bool
 	Errorf(format string, arguments ...any)
 	Fatalf(format string, arguments ...any)
 }
@@ -52,7 +53,7 @@ func Scattered(below func(n int) int, a *arena.Arena) *arena.Arena {
 	for _, id := range a.IDs()[1:] {
 		other := api.ID(0)
 		for again := true; again; _, again = taken[other] {
-			other = api.ID(below(1<<32)<<32+below(1<<32)) >> below(54)
+			other = anyID(below)
 		}
 		ids[id], taken[other] = other, struct{}{}
 	}
@@ -67,10 +68,69 @@ func Scattered(below func(n int) int, a *arena.Arena) *arena.Arena {
 	return b
 }
 
+// Moved returns a program in which all IDs but the root's are so much greater.
+func Moved(a *arena.Arena, by api.ID) *arena.Arena {
+	moved := func(id api.ID) api.ID {
+		if id > a.Root() {
+			id += by
+		}
+		return id
+	}
+	b := arena.New()
+	for id, n := range a.Walk(a.Root()) {
+		for i, kid := range n.Kids {
+			n.Kids[i] = moved(kid)
+		}
+		n.Ref = moved(n.Ref)
+		b.Put(moved(id), n)
+	}
+	return b
+}
+
+// Crowd returns a program of so many nodes. Its beginning is given, up to
+// somewhere in the body of its last function.
+func Crowd(t T, beginning string, size int) *arena.Arena {
+	t.Helper()
+	const end = " return 0; } }"
+	missing := size - Right(t, beginning+end).Len()
+	if missing%2 == 1 {
+		beginning += " print -1;"
+		missing -= 3
+	}
+	a := Right(t, beginning+strings.Repeat(" print 1;", max(missing, 0)/2)+end)
+	if a.Len() != size {
+		t.Fatalf("%d nodes, want %d", a.Len(), size)
+	}
+	return a
+}
+
+// NoNames are texts that are no names.
+func NoNames() []string {
+	return []string{"", "if", "1", "a b", "a.b", "a ", "é", "\x00", strings.Repeat("x", api.MaxName+1)}
+}
+
+// anyID returns an ID of any size.
+func anyID(below func(n int) int) api.ID {
+	return api.ID(below(1<<32)<<32+below(1<<32)) >> below(54)
+}
+
 // Source returns its IDs one by one, and counts how often it is asked.
 type Source struct {
 	IDs   []api.ID
 	Asked int
+}
+
+func From(ids ...api.ID) *Source {
+	return &Source{IDs: ids}
+}
+
+// Row returns so many IDs, each the one after the other.
+func Row(from api.ID, count int) []api.ID {
+	var l []api.ID
+	for i := range count {
+		l = append(l, from+api.ID(i))
+	}
+	return l
 }
 
 func (s *Source) Next() (api.ID, bool) {
@@ -126,6 +186,16 @@ func WantText(t T, what string, got Result, want string) {
 	}
 }
 
+// WantProgram expects a success, and a program that is printed like that one.
+func WantProgram(t T, what string, got Result, program string) {
+	t.Helper()
+	want, e := text.Print(Right(t, program))
+	if e != api.OK {
+		t.Fatalf("Print of %q: error %d", program, e)
+	}
+	WantText(t, what, got, want)
+}
+
 // WantResult expects what a model has returned.
 func WantResult(t T, what string, got, want Result) {
 	t.Helper()
@@ -171,53 +241,4 @@ func spoil(a *arena.Arena) {
 	if len(ids) > 0 {
 		a.Drop(ids[len(ids)-1])
 	}
-}
-
-// Nodes are those of an arena, for models.
-type Nodes map[api.ID]api.Node
-
-func NodesOf(a *arena.Arena) Nodes {
-	m := Nodes{}
-	for _, id := range a.IDs() {
-		m[id], _ = a.Get(id)
-	}
-	return m
-}
-
-func (m Nodes) Arena() *arena.Arena {
-	a := arena.New()
-	a.Drop(a.Root())
-	for id, n := range m {
-		a.Put(id, n)
-	}
-	return a
-}
-
-// End is what a call returns that has made these nodes.
-func (m Nodes) End() Result {
-	a := m.Arena()
-	if e := check.Right(a); e != api.OK {
-		return Fail(e)
-	}
-	return Of(a, api.OK)
-}
-
-// Below returns a node and everything below it, for programs that are Trees.
-func (m Nodes) Below(id api.ID) []api.ID {
-	l := []api.ID{id}
-	for _, kid := range m[id].Kids {
-		l = append(l, m.Below(kid)...)
-	}
-	return l
-}
-
-// Parent looks at all nodes, and returns the one with the smallest ID.
-func (m Nodes) Parent(id api.ID) (api.ID, int) {
-	parent, at := api.ID(0), 0
-	for other, n := range m {
-		if i := slices.Index(n.Kids, id); i >= 0 && (parent == 0 || other < parent) {
-			parent, at = other, i
-		}
-	}
-	return parent, at
 }

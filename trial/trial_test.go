@@ -7,6 +7,7 @@ import (
 
 	"hourglass/api"
 	"hourglass/arena"
+	"hourglass/token"
 	"hourglass/trial"
 )
 
@@ -16,6 +17,7 @@ type counter struct {
 }
 
 func (c *counter) Helper()               {}
+func (c *counter) Failed() bool          { return c.told > 0 }
 func (c *counter) Errorf(string, ...any) { c.told++ }
 func (c *counter) Fatalf(string, ...any) { c.told++ }
 
@@ -55,12 +57,47 @@ func TestScattered(t *testing.T) {
 	}
 }
 
+func TestMoved(t *testing.T) {
+	a := trial.Right(t, within("let x int = (1 + 2); return x;"))
+	b := trial.Moved(a, 100)
+	want := []api.ID{1}
+	for _, id := range a.IDs()[1:] {
+		want = append(want, id+100)
+	}
+	if got := b.IDs(); !slices.Equal(got, want) || !arena.Alike(a, b) {
+		t.Error(got)
+	}
+}
+
+func TestCrowd(t *testing.T) {
+	for _, size := range []int{20, 21, 1000, api.MaxNodes} {
+		if a := trial.Crowd(t, "module main { func main() int {", size); a.Len() != size {
+			t.Error(size, a.Len())
+		}
+	}
+	wantTold(t, "too small", true, func(c *counter) { trial.Crowd(c, "module main { func main() int {", 7) })
+}
+
+func TestNoNames(t *testing.T) {
+	for _, s := range trial.NoNames() {
+		if token.IsName(s) {
+			t.Error(s)
+		}
+	}
+}
+
 func TestSource(t *testing.T) {
-	s := trial.Source{IDs: []api.ID{7, 5}}
+	s := trial.From(7, 5)
 	for i, want := range []api.ID{7, 5, 0, 0} {
 		if id, ok := s.Next(); id != want || ok != (want > 0) || s.Asked != i+1 {
 			t.Error(i, id, ok, s.Asked)
 		}
+	}
+}
+
+func TestRow(t *testing.T) {
+	if got := trial.Row(7, 3); !slices.Equal(got, []api.ID{7, 8, 9}) || len(trial.Row(1, 0)) > 0 {
+		t.Error(got)
 	}
 }
 
@@ -78,6 +115,9 @@ func TestWant(t *testing.T) {
 	wantTold(t, "a text", false, func(c *counter) { trial.WantText(c, "", trial.Of(a, api.OK), program) })
 	wantTold(t, "another text", true, func(c *counter) { trial.WantText(c, "", trial.Of(b, api.OK), program) })
 	wantTold(t, "an error, for a text", true, func(c *counter) { trial.WantText(c, "", failure, program) })
+	wantTold(t, "a program", false, func(c *counter) { trial.WantProgram(c, "", trial.Of(a, api.OK), within("return 1;")) })
+	wantTold(t, "another program", true, func(c *counter) { trial.WantProgram(c, "", trial.Of(b, api.OK), program) })
+	wantTold(t, "an error, for a program", true, func(c *counter) { trial.WantProgram(c, "", failure, program) })
 	wantTold(t, "the error of a model", false, func(c *counter) { trial.WantResult(c, "", failure, trial.Fail(api.ErrName)) })
 	wantTold(t, "another error than a model's", true, func(c *counter) { trial.WantResult(c, "", failure, trial.Fail(api.ErrArg)) })
 	wantTold(t, "an arena for a model's error", true, func(c *counter) { trial.WantResult(c, "", trial.Of(a, api.OK), failure) })
