@@ -45,8 +45,8 @@ func wantParse(t *testing.T, want *past.Past) {
 }
 
 func TestBytes(t *testing.T) {
-	base := trial.Right(t, program).Bytes()
-	p := started(t, program, 300)
+	base := trial.Right(t, trial.Little).Bytes()
+	p := started(t, trial.Little, 300)
 	want := func(entries ...byte) {
 		t.Helper()
 		expected := slices.Concat([]byte{0xac, 2, byte(len(base))}, base, entries)
@@ -56,9 +56,9 @@ func TestBytes(t *testing.T) {
 		wantParse(t, p)
 	}
 	want(0)
-	do(t, p, 301, rename("k"))
+	do(t, p, 301, trial.Rename("k"))
 	want(1, 1, 5, 1, 2, 0, 1, 'k', 1)
-	do(t, p, 600, add("x"))
+	do(t, p, 600, trial.Add("x"))
 	want(2, 1, 5, 1, 2, 0, 1, 'k', 1, 0xac, 2, 5, 10, 0, 0, 1, 'x', 1)
 	wantUndo(t, p, 301, 0, api.OK)
 	want(2, 1, 5, 1, 2, 0, 1, 'k', 0, 0xac, 2, 5, 10, 0, 0, 1, 'x', 1)
@@ -72,14 +72,14 @@ func TestBytes(t *testing.T) {
 
 func TestBytesOfMany(t *testing.T) {
 	wantParse(t, full(t))
-	p := started(t, program, 0)
-	do(t, p, math.MaxUint32, add("x"))
+	p := started(t, trial.Little, 0)
+	do(t, p, math.MaxUint32, trial.Add("x"))
 	wantParse(t, p)
 	p.Freeze(0)
 	wantParse(t, p)
-	wantTake(t, started(t, program, 0), nil, 0, api.OK)
-	q := started(t, program, 3)
-	wantTake(t, q, []step.Stamped{{Stamp: 9, Op: add("x")}, {Stamp: 4, Op: add("y")}, {Stamp: 6, Op: drop(4)}}, 0, api.OK)
+	wantTake(t, started(t, trial.Little, 0), nil, 0, api.OK)
+	q := started(t, trial.Little, 3)
+	wantTake(t, q, []step.Stamped{{Stamp: 9, Op: trial.Add("x")}, {Stamp: 4, Op: trial.Add("y")}, {Stamp: 6, Op: trial.Drop(4)}}, 0, api.OK)
 	wantUndo(t, q, 9, 0, api.OK)
 	wantParse(t, q)
 	large, e := past.New(trial.Crowd(t, "module main { func main() int {", api.MaxNodes), 7)
@@ -90,9 +90,9 @@ func TestBytesOfMany(t *testing.T) {
 }
 
 func TestParseErrors(t *testing.T) {
-	base := trial.Right(t, program).Bytes()
-	k, x := entry(1, rename("k"), 1), entry(2, add("x"), 1)
-	for _, b := range [][]byte{laid(4, base, 2, k, x), laid(4, base, 2, x, k), laid(0, base, 1, entry(math.MaxUint32, add("x"), 1)), laid(math.MaxUint32-1, base, 1, k)} {
+	base := trial.Right(t, trial.Little).Bytes()
+	k, x := entry(1, trial.Rename("k"), 1), entry(2, trial.Add("x"), 1)
+	for _, b := range [][]byte{laid(4, base, 2, k, x), laid(4, base, 2, x, k), laid(0, base, 1, entry(math.MaxUint32, trial.Add("x"), 1)), laid(math.MaxUint32-1, base, 1, k)} {
 		p, e := past.Parse(b)
 		if e != api.OK || !bytes.Equal(p.Bytes(), b) {
 			t.Errorf("Parse: error %d", e)
@@ -111,39 +111,39 @@ func TestParseErrors(t *testing.T) {
 		"too many entries":                 laid(4, base, 1, k, x),
 		"more":                             laid(4, base, 1, k, []byte{0}),
 		"an entry without Live":            laid(4, base, 1, k[:len(k)-1]),
-		"an entry that is 2 live":          laid(4, base, 1, entry(1, rename("k"), 2)),
-		"a frozen stamp":                   laid(4, base, 1, entry(0, rename("k"), 1)),
-		"a frozen stamp that is dead":      laid(4, base, 1, entry(0, rename("k"), 0)),
-		"a stamp of 2^32":                  laid(4, base, 1, entry(math.MaxUint32-3, rename("k"), 1)),
-		"a stamp of 2^32 after 0":          laid(0, base, 1, entry(1<<32, rename("k"), 1)),
+		"an entry that is 2 live":          laid(4, base, 1, entry(1, trial.Rename("k"), 2)),
+		"a frozen stamp":                   laid(4, base, 1, entry(0, trial.Rename("k"), 1)),
+		"a frozen stamp that is dead":      laid(4, base, 1, entry(0, trial.Rename("k"), 0)),
+		"a stamp of 2^32":                  laid(4, base, 1, entry(math.MaxUint32-3, trial.Rename("k"), 1)),
+		"a stamp of 2^32 after 0":          laid(0, base, 1, entry(1<<32, trial.Rename("k"), 1)),
 		"a stamp of 2^32 after the last":   laid(math.MaxUint32, base, 1, k),
-		"a stamp of 2^64 - 1":              laid(4, base, 1, entry(math.MaxUint64, rename("k"), 1)),
-		"a stamp twice":                    laid(4, base, 2, k, entry(1, rename("l"), 1)),
-		"a stamp twice, of dead ones":      laid(4, base, 2, entry(1, rename("k"), 0), entry(1, rename("l"), 0)),
+		"a stamp of 2^64 - 1":              laid(4, base, 1, entry(math.MaxUint64, trial.Rename("k"), 1)),
+		"a stamp twice":                    laid(4, base, 2, k, entry(1, trial.Rename("l"), 1)),
+		"a stamp twice, of dead ones":      laid(4, base, 2, entry(1, trial.Rename("k"), 0), entry(1, trial.Rename("l"), 0)),
 		"no operation":                     laid(4, base, 1, entry(1, op.Op{}, 1)),
 		"no operation, but dead":           laid(4, base, 1, entry(1, op.Op{}, 0)),
-		"a clash":                          laid(4, base, 1, entry(1, rename("main"), 1)),
-		"a clash with the second":          laid(4, base, 2, x, entry(9, add("x"), 1)),
-		"no such node":                     laid(4, base, 1, entry(1, drop(3), 1)),
-		"what is needed is dead":           laid(4, base, 2, entry(2, add("x"), 0), entry(5, drop(6), 1)),
-		"what is needed comes later":       laid(4, base, 2, entry(5, drop(6), 1), entry(2, add("x"), 1)),
-		"a stamp of which an ID exists":    laid(4, trial.Moved(trial.Right(t, program), 5*65536-1).Bytes(), 1, entry(1, add("x"), 1)),
+		"a clash":                          laid(4, base, 1, entry(1, trial.Rename("main"), 1)),
+		"a clash with the second":          laid(4, base, 2, x, entry(9, trial.Add("x"), 1)),
+		"no such node":                     laid(4, base, 1, entry(1, trial.Drop(3), 1)),
+		"what is needed is dead":           laid(4, base, 2, entry(2, trial.Add("x"), 0), entry(5, trial.Drop(6), 1)),
+		"what is needed comes later":       laid(4, base, 2, entry(5, trial.Drop(6), 1), entry(2, trial.Add("x"), 1)),
+		"a stamp of which an ID exists":    laid(4, trial.Moved(trial.Right(t, trial.Little), 5*65536-1).Bytes(), 1, entry(1, trial.Add("x"), 1)),
 		"only a Program":                   laid(4, arena.New().Bytes(), 0),
 		"a text that is longer than there": append(new(tape.Writer).Num(4).Num(1<<40).Bytes(), base...),
 	} {
 		wantNoParse(t, what, b)
 	}
-	for _, w := range trial.Wrongs(t, program) {
+	for _, w := range trial.Wrongs(t, trial.Little) {
 		wantNoParse(t, w.Why, laid(0, w.Arena.Bytes(), 0))
 	}
 }
 
 // TestParseOfMany: up to MaxOps entries.
 func TestParseOfMany(t *testing.T) {
-	base := trial.Right(t, program).Bytes()
+	base := trial.Right(t, trial.Little).Bytes()
 	var entries [][]byte
 	for i := range uint64(api.MaxOps + 1) {
-		entries = append(entries, entry(i+1, rename([]string{"k", "l"}[i%2]), byte(i%3/2)))
+		entries = append(entries, entry(i+1, trial.Rename([]string{"k", "l"}[i%2]), byte(i%3/2)))
 	}
 	wantNoParse(t, "one too many", laid(7, base, api.MaxOps+1, entries...))
 	wantNoParse(t, "far too many", laid(7, base, math.MaxUint64, entries...))
@@ -157,10 +157,10 @@ func TestParseOfMany(t *testing.T) {
 // TestParseIsTheInverse: of whatever bytes, Parse accepts those only that Bytes
 // returns.
 func TestParseIsTheInverse(t *testing.T) {
-	p := started(t, program, 300)
-	do(t, p, 301, rename("k"))
-	do(t, p, 307, add("x"))
-	do(t, p, 310, op.Op{Kind: op.RenameModule, A: made(307), Name: strings.Repeat("y", api.MaxName)})
+	p := started(t, trial.Little, 300)
+	do(t, p, 301, trial.Rename("k"))
+	do(t, p, 307, trial.Add("x"))
+	do(t, p, 310, op.Op{Kind: op.RenameModule, A: trial.Made(307), Name: strings.Repeat("y", api.MaxName)})
 	wantUndo(t, p, 310, 0, api.OK)
 	whole := p.Bytes()
 	below := rand.New(rand.NewSource(1)).Intn

@@ -7,7 +7,6 @@ import (
 
 	"hourglass/api"
 	"hourglass/arena"
-	"hourglass/author"
 	"hourglass/check"
 	"hourglass/op"
 	"hourglass/past"
@@ -124,19 +123,9 @@ type world struct {
 	count trial.Counts
 }
 
-// small returns a program of up to 80 nodes.
-func small(t *testing.T, below func(n int) int) *arena.Arena {
-	t.Helper()
-	a := trial.Right(t, author.Program(below))
-	for a.Len() > 80 {
-		a = trial.Right(t, author.Program(below))
-	}
-	return a
-}
-
 func newWorld(t *testing.T, below func(n int) int, count trial.Counts) *world {
 	t.Helper()
-	base := trial.Scattered(below, small(t, below))
+	base := trial.Scattered(below, trial.Short(t, below))
 	w := &world{t: t, below: below, last: uint32(below(3)), count: count}
 	for range 3 {
 		p, e := past.New(base, w.last)
@@ -177,7 +166,7 @@ func (w *world) op(p pair) op.Op {
 
 func (w *world) want(what string, stamp uint32, e api.Errno, wantStamp uint32, want api.Errno) {
 	w.t.Helper()
-	wantCause(w.t, what, stamp, e, wantStamp, want)
+	trial.WantCause(w.t, what, stamp, e, wantStamp, want)
 	if w.count[what] == nil {
 		w.count[what] = map[api.Errno]int{}
 	}

@@ -216,19 +216,19 @@ func WantNew(t T, what string, a *arena.Arena, call func(a *arena.Arena) (*arena
 		t.Errorf("%s: error %d, or it has changed its argument", what, e)
 	}
 	returned := b.Copy()
-	spoil(a)
+	SpoilArena(a)
 	if !arena.Same(b, returned) {
 		t.Errorf("%s: the result has changed with the argument", what)
 	}
 	c, _ := call(before)
-	spoil(b)
+	SpoilArena(b)
 	if !arena.Same(c, returned) || !arena.Same(before, original) {
 		t.Errorf("%s: something has changed with the result", what)
 	}
 }
 
-// spoil changes each node of an arena, and drops one.
-func spoil(a *arena.Arena) {
+// SpoilArena changes each node of an arena, and drops one.
+func SpoilArena(a *arena.Arena) {
 	ids := a.IDs()
 	for _, id := range ids {
 		n, _ := a.Get(id)
