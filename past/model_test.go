@@ -167,10 +167,7 @@ func (w *world) op(p pair) op.Op {
 func (w *world) want(what string, stamp uint32, e api.Errno, wantStamp uint32, want api.Errno) {
 	w.t.Helper()
 	trial.WantCause(w.t, what, stamp, e, wantStamp, want)
-	if w.count[what] == nil {
-		w.count[what] = map[api.Errno]int{}
-	}
-	w.count[what][e]++
+	w.count.Add(what, e)
 }
 
 // call makes one call of a past and its model.
@@ -264,24 +261,12 @@ func TestRandomly(t *testing.T) {
 				t.FailNow()
 			}
 		}
-		w.wantBehavior()
+		for _, p := range w.pairs {
+			trial.WantKept(t, below, p.past)
+		}
 	}
 	count.Want(t, "Do", 5, api.OK, api.ErrArg, api.ErrNone, api.ErrClash)
 	count.Want(t, "Undo", 5, api.OK, api.ErrFrozen, api.ErrUnknown, api.ErrDead, api.ErrNone)
 	count.Want(t, "Redo", 5, api.OK, api.ErrFrozen, api.ErrUnknown, api.ErrLive)
 	count.Want(t, "Take", 3, api.OK, api.ErrFrozen, api.ErrArg, api.ErrNone)
-}
-
-// wantBehavior expects that each program does what its base does.
-func (w *world) wantBehavior() {
-	w.t.Helper()
-	for _, p := range w.pairs {
-		times := 1
-		for _, s := range p.past.Live() {
-			times = min(times*step.Grows(s.Op), 1000)
-		}
-		if times < 1000 {
-			trial.WantAlike(w.t, p.past.Base(), p.past.Now(), trial.Input(w.below), 1000, times)
-		}
-	}
 }

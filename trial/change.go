@@ -59,7 +59,7 @@ type Call struct {
 // Counts are how often each call has returned each error.
 type Counts map[string]map[api.Errno]int
 
-func (c Counts) add(name string, e api.Errno) {
+func (c Counts) Add(name string, e api.Errno) {
 	if c[name] == nil {
 		c[name] = map[api.Errno]int{}
 	}
@@ -90,7 +90,7 @@ func Randomly(t T, below func(n int) int, programs int, call func(c Changer) Cal
 		for range calls {
 			before := a.Copy()
 			c := call(Changer{below, a})
-			counts.add(c.Name, c.Got.Error)
+			counts.Add(c.Name, c.Got.Error)
 			if !arena.Same(a, before) {
 				t.Fatalf("%s has changed its argument", c.Name)
 			}

@@ -5,9 +5,11 @@ import (
 	"hourglass/arena"
 	"hourglass/author"
 	"hourglass/op"
+	"hourglass/past"
+	"hourglass/step"
 )
 
-// Little has the modules m, which is 2, and main; 6 is the Return of m.f, 7 the
+// Little has the modules m, which is 2, and main; 5 is the Return of m.f, 6 the
 // 1 in it.
 const Little = "module m { func f() int { return 1; } } module main { func main() int { let x int = m.f(); return x; } }"
 
@@ -44,6 +46,20 @@ func Short(t T, below func(n int) int) *arena.Arena {
 		a = Right(t, author.Program(below))
 	}
 	return a
+}
+
+// WantKept expects that a past's program does what its base does, unless it may
+// need far more fuel.
+func WantKept(t T, below func(n int) int, p *past.Past) {
+	t.Helper()
+	const most = 1000
+	times := 1
+	for _, s := range p.Live() {
+		times = min(times*step.Grows(s.Op), most)
+	}
+	if times < most {
+		WantAlike(t, p.Base(), p.Now(), Input(below), 1000, times)
+	}
 }
 
 func WantErrno(t T, what string, got, want api.Errno) {

@@ -2,10 +2,13 @@ package trial_test
 
 import (
 	"math/rand"
+	"strconv"
 	"testing"
 
 	"hourglass/api"
 	"hourglass/check"
+	"hourglass/op"
+	"hourglass/past"
 	"hourglass/step"
 	"hourglass/trial"
 )
@@ -29,6 +32,20 @@ func TestShort(t *testing.T) {
 		if a := trial.Short(t, below); a.Len() > 80 || check.Right(a) != api.OK {
 			t.Error(a.Len())
 		}
+	}
+}
+
+// TestWantKept: a past keeps what its program does.
+func TestWantKept(t *testing.T) {
+	below := rand.New(rand.NewSource(1)).Intn
+	p, e := past.New(trial.Right(t, trial.Little), 0)
+	if e != api.OK {
+		t.Fatal(e)
+	}
+	for i := range uint32(40) {
+		o := op.Op{Kind: op.ExtractLet, A: 6, Name: "x" + strconv.Itoa(int(i))}
+		wantTold(t, "kept", false, func(c *counter) { trial.WantKept(c, below, p) })
+		trial.WantErrno(t, "Do", p.Do(o, i+1), api.OK)
 	}
 }
 
