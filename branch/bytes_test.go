@@ -79,11 +79,11 @@ func TestBytes(t *testing.T) {
 	}
 	wantParse(t, b)
 	many(t, b, 300)
-	fork(t, b, "x")
-	turn(t, b, "x")
-	do(t, b, 301, trial.Add("k1"))
-	wantUndo(t, b, 7, 0, api.OK)
-	fork(t, b, "y")
+	trial.Fork(t, b, "x")
+	trial.Switch(t, b, "x")
+	trial.Do(t, b, 301, trial.Add("k1"))
+	trial.WantUndo(t, b, 7, 0, api.OK)
+	trial.Fork(t, b, "y")
 	want = laid(301, 1, 3, named("trunk", b.Past("trunk").Bytes()), named("x", b.Past("x").Bytes()), named("y", b.Past("y").Bytes()))
 	if got := b.Bytes(); !bytes.Equal(got, want) || !bytes.Equal(got[:4], []byte{0xad, 2, 1, 3}) {
 		t.Errorf("% x, want % x", got, want)
@@ -97,12 +97,12 @@ func TestBytes(t *testing.T) {
 func full(t *testing.T) *branch.Book {
 	t.Helper()
 	b := started(t)
-	do(t, b, 1, trial.Add("a"))
+	trial.Do(t, b, 1, trial.Add("a"))
 	for i := range api.MaxBranch - 1 {
 		name := strings.Repeat("n", api.MaxName-4*i)
-		fork(t, b, name)
-		turn(t, b, name)
-		do(t, b, b.Stamp()+1, trial.Rename("k"+strconv.Itoa(i)))
+		trial.Fork(t, b, name)
+		trial.Switch(t, b, name)
+		trial.Do(t, b, b.Stamp()+1, trial.Rename("k"+strconv.Itoa(i)))
 	}
 	return b
 }
@@ -114,25 +114,25 @@ func TestBytesOfAllBranches(t *testing.T) {
 	if p[1] != api.MaxBranch-1 || p[2] != api.MaxBranch {
 		t.Errorf("% x", p[:3])
 	}
-	turn(t, b, "trunk")
+	trial.Switch(t, b, "trunk")
 	wantParse(t, b)
 }
 
 // TestParsed: what is read goes on as before.
 func TestParsed(t *testing.T) {
 	b := started(t)
-	do(t, b, 1, trial.Add("a"))
-	fork(t, b, "x")
-	do(t, b, 2, trial.Add("b"))
-	turn(t, b, "x")
-	do(t, b, 3, trial.Add("c"))
-	wantUndo(t, b, 1, 0, api.OK)
+	trial.Do(t, b, 1, trial.Add("a"))
+	trial.Fork(t, b, "x")
+	trial.Do(t, b, 2, trial.Add("b"))
+	trial.Switch(t, b, "x")
+	trial.Do(t, b, 3, trial.Add("c"))
+	trial.WantUndo(t, b, 1, 0, api.OK)
 	b = parsed(t, b.Bytes())
 	wantNames(t, b, 3, "x", "trunk", "x")
 	wantPast(t, b, "trunk", 0, live(1, trial.Add("a")), live(2, trial.Add("b")))
 	wantPast(t, b, "x", 0, dead(1, trial.Add("a")), live(3, trial.Add("c")))
-	wantMerge(t, b, "trunk", 0, api.OK)
-	do(t, b, 4, trial.Drop(2))
+	trial.WantMerge(t, b, "trunk", 0, api.OK)
+	trial.Do(t, b, 4, trial.Drop(2))
 	wantNow(t, b, trial.Little+" module c { }")
 }
 
@@ -140,26 +140,26 @@ func TestParsed(t *testing.T) {
 func TestLastStamp(t *testing.T) {
 	const last = math.MaxInt32
 	b := parsed(t, laid(last-1, 0, 1, named("trunk", taken(t, 0).Bytes())))
-	wantUnchanged(t, b, func() { wantDo(t, b, trial.Rename("main"), api.ErrClash) })
-	do(t, b, last, trial.Add("x"))
+	wantUnchanged(t, b, func() { trial.WantDo(t, b, trial.Rename("main"), api.ErrClash) })
+	trial.Do(t, b, last, trial.Add("x"))
 	wantNames(t, b, last, "trunk", "trunk")
 	wantParse(t, b)
 	wantUnchanged(t, b, func() {
-		wantDo(t, b, trial.Rename("k"), api.ErrFull)
-		wantDo(t, b, trial.Rename("main"), api.ErrFull) // not ErrClash, whose number is greater
-		wantDo(t, b, op.Op{Kind: op.DropModule, A: 2}, api.ErrFull)
-		wantDo(t, b, op.Op{}, api.ErrArg) // of errors without an order, the one with the smallest number
-		wantDo(t, b, trial.Drop(5), api.ErrNone)
+		trial.WantDo(t, b, trial.Rename("k"), api.ErrFull)
+		trial.WantDo(t, b, trial.Rename("main"), api.ErrFull) // not ErrClash, whose number is greater
+		trial.WantDo(t, b, op.Op{Kind: op.DropModule, A: 2}, api.ErrFull)
+		trial.WantDo(t, b, op.Op{}, api.ErrArg) // of errors without an order, the one with the smallest number
+		trial.WantDo(t, b, trial.Drop(5), api.ErrNone)
 	})
-	fork(t, b, "x")
-	turn(t, b, "x")
-	wantDo(t, b, trial.Rename("k"), api.ErrFull)
-	wantUndo(t, b, last, 0, api.OK)
-	wantRedo(t, b, last, 0, api.OK)
+	trial.Fork(t, b, "x")
+	trial.Switch(t, b, "x")
+	trial.WantDo(t, b, trial.Rename("k"), api.ErrFull)
+	trial.WantUndo(t, b, last, 0, api.OK)
+	trial.WantRedo(t, b, last, 0, api.OK)
 	b.Freeze()
 	wantPast(t, b, "trunk", last)
-	wantDo(t, b, trial.Rename("k"), api.ErrFull)
-	wantDo(t, b, op.Op{}, api.ErrArg)
+	trial.WantDo(t, b, trial.Rename("k"), api.ErrFull)
+	trial.WantDo(t, b, op.Op{}, api.ErrArg)
 	wantNow(t, b, trial.Little+" module x { }")
 }
 
@@ -169,13 +169,13 @@ func TestMergeOfOthers(t *testing.T) {
 	old := taken(t, 2, step.Stamped{Stamp: 4, Op: trial.Add("a")}, step.Stamped{Stamp: 6, Op: trial.Add("b")})
 	p := laid(9, 0, 3, named("new", taken(t, 5).Bytes()), named("old", old.Bytes()), named("last", taken(t, 9).Bytes()))
 	b := parsed(t, p)
-	wantUnchanged(t, b, func() { wantMerge(t, b, "old", 0, api.ErrFrozen) })
-	turn(t, b, "old")
-	wantUnchanged(t, b, func() { wantMerge(t, b, "new", 0, api.OK) })
-	do(t, b, 10, trial.Add("c"))
-	wantUndo(t, b, 4, 0, api.OK)
-	turn(t, b, "new")
-	wantMerge(t, b, "old", 0, api.OK)
+	wantUnchanged(t, b, func() { trial.WantMerge(t, b, "old", 0, api.ErrFrozen) })
+	trial.Switch(t, b, "old")
+	wantUnchanged(t, b, func() { trial.WantMerge(t, b, "new", 0, api.OK) })
+	trial.Do(t, b, 10, trial.Add("c"))
+	trial.WantUndo(t, b, 4, 0, api.OK)
+	trial.Switch(t, b, "new")
+	trial.WantMerge(t, b, "old", 0, api.OK)
 	wantPast(t, b, "new", 5, live(6, trial.Add("b")), live(10, trial.Add("c")))
 	b.Freeze()
 	for _, name := range b.Names() {
@@ -245,11 +245,11 @@ func TestParseOfMany(t *testing.T) {
 // returns.
 func TestParseIsTheInverse(t *testing.T) {
 	b := started(t)
-	do(t, b, 1, trial.Add("x"))
-	fork(t, b, "other")
-	do(t, b, 2, trial.Rename("k"))
-	wantUndo(t, b, 1, 0, api.OK)
-	turn(t, b, "other")
+	trial.Do(t, b, 1, trial.Add("x"))
+	trial.Fork(t, b, "other")
+	trial.Do(t, b, 2, trial.Rename("k"))
+	trial.WantUndo(t, b, 1, 0, api.OK)
+	trial.Switch(t, b, "other")
 	whole := b.Bytes()
 	below := rand.New(rand.NewSource(1)).Intn
 	accepted := 0

@@ -29,9 +29,9 @@ func TestMemory(t *testing.T) {
 	}
 	trial.SpoilArena(base)
 	wantNow(t, b, trial.Little)
-	do(t, b, 1, trial.Add("x"))
-	fork(t, b, "other")
-	do(t, b, 2, trial.Rename("k"))
+	trial.Do(t, b, 1, trial.Add("x"))
+	trial.Fork(t, b, "other")
+	trial.Do(t, b, 2, trial.Rename("k"))
 	before := b.Bytes()
 	for range 2 {
 		trial.SpoilArena(b.Now())
@@ -61,24 +61,24 @@ func TestMemory(t *testing.T) {
 // way round.
 func TestCopy(t *testing.T) {
 	changes := map[string]func(b *branch.Book){
-		"Do":     func(b *branch.Book) { do(t, b, 4, trial.Rename("z")) },
-		"Undo":   func(b *branch.Book) { wantUndo(t, b, 1, 0, api.OK) },
-		"Redo":   func(b *branch.Book) { wantRedo(t, b, 3, 0, api.OK) },
-		"Fork":   func(b *branch.Book) { fork(t, b, "more") },
-		"Switch": func(b *branch.Book) { turn(t, b, "other") },
-		"Merge":  func(b *branch.Book) { wantMerge(t, b, "other", 0, api.OK) },
+		"Do":     func(b *branch.Book) { trial.Do(t, b, 4, trial.Rename("z")) },
+		"Undo":   func(b *branch.Book) { trial.WantUndo(t, b, 1, 0, api.OK) },
+		"Redo":   func(b *branch.Book) { trial.WantRedo(t, b, 3, 0, api.OK) },
+		"Fork":   func(b *branch.Book) { trial.Fork(t, b, "more") },
+		"Switch": func(b *branch.Book) { trial.Switch(t, b, "other") },
+		"Merge":  func(b *branch.Book) { trial.WantMerge(t, b, "other", 0, api.OK) },
 		"Freeze": func(b *branch.Book) { b.Freeze() },
 	}
 	for what, change := range changes {
 		for _, original := range []bool{true, false} {
 			b := started(t)
-			do(t, b, 1, trial.Add("x"))
-			fork(t, b, "other")
-			turn(t, b, "other")
-			do(t, b, 2, trial.Add("y"))
-			turn(t, b, "trunk")
-			do(t, b, 3, trial.Rename("k"))
-			wantUndo(t, b, 3, 0, api.OK)
+			trial.Do(t, b, 1, trial.Add("x"))
+			trial.Fork(t, b, "other")
+			trial.Switch(t, b, "other")
+			trial.Do(t, b, 2, trial.Add("y"))
+			trial.Switch(t, b, "trunk")
+			trial.Do(t, b, 3, trial.Rename("k"))
+			trial.WantUndo(t, b, 3, 0, api.OK)
 			c, before := b.Copy(), b.Bytes()
 			if !branch.Same(b, c) {
 				t.Errorf("%s: a copy is not the same", what)
@@ -91,7 +91,7 @@ func TestCopy(t *testing.T) {
 			if branch.Same(b, c) || bytes.Equal(changed.Bytes(), before) || !bytes.Equal(other.Bytes(), before) {
 				t.Errorf("%s: changes both, or none", what)
 			}
-			turn(t, other, "other")
+			trial.Switch(t, other, "other")
 			wantNow(t, other, trial.Little+" module x { } module y { }")
 		}
 	}
@@ -100,14 +100,14 @@ func TestCopy(t *testing.T) {
 // TestForksAreCopies: also those of one branch.
 func TestForksAreCopies(t *testing.T) {
 	b := started(t)
-	do(t, b, 1, trial.Add("x"))
+	trial.Do(t, b, 1, trial.Add("x"))
 	names := []string{"a", "b", "c"}
 	for _, name := range names {
-		fork(t, b, name)
+		trial.Fork(t, b, name)
 	}
 	for i, name := range names {
-		turn(t, b, name)
-		do(t, b, uint32(i+2), trial.Add(name))
+		trial.Switch(t, b, name)
+		trial.Do(t, b, uint32(i+2), trial.Add(name))
 	}
 	for i, name := range names {
 		wantPast(t, b, name, 0, live(1, trial.Add("x")), live(uint32(i+2), trial.Add(name)))

@@ -209,22 +209,22 @@ func TestMergeOfWhatCommutes(t *testing.T) {
 		if e != api.OK {
 			t.Fatal(e)
 		}
-		fork(t, b, "x")
+		trial.Fork(t, b, "x")
 		for range 8 {
 			c := trial.Changer{Below: below, Arena: b.Now()}
 			if o := c.Op(); judge.Of(base, o).Known {
 				b.Do(o)
 			}
-			turn(t, b, c.One("trunk", "x"))
+			trial.Switch(t, b, c.One("trunk", "x"))
 		}
 		if !judge.Apart(base, operations(b, "trunk"), operations(b, "x")) {
 			continue
 		}
 		c := b.Copy()
-		turn(t, b, "trunk")
-		wantMerge(t, b, "x", 0, api.OK)
-		turn(t, c, "x")
-		wantMerge(t, c, "trunk", 0, api.OK)
+		trial.Switch(t, b, "trunk")
+		trial.WantMerge(t, b, "x", 0, api.OK)
+		trial.Switch(t, c, "x")
+		trial.WantMerge(t, c, "trunk", 0, api.OK)
 		if !arena.Same(b.Now(), c.Now()) {
 			t.Fatal("the programs differ")
 		}

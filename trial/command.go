@@ -1,6 +1,8 @@
 package trial
 
 import (
+	"strconv"
+
 	"hourglass/api"
 	"hourglass/branch"
 	"hourglass/op"
@@ -79,4 +81,47 @@ func anyBranch(below func(n int) int, b *branch.Book) string {
 		return "none"
 	}
 	return Changer{Below: below}.One(b.Names()...)
+}
+
+// Do expects that a history does an operation, with this stamp.
+func Do(t T, h History, want uint32, o op.Op) {
+	t.Helper()
+	stamp, e := h.Do(o)
+	WantCause(t, "Do of "+o.Text(), stamp, e, want, api.OK)
+}
+
+func Fork(t T, h History, name string) {
+	t.Helper()
+	WantErrno(t, "Fork of "+name, h.Fork(name), api.OK)
+}
+
+func Switch(t T, h History, name string) {
+	t.Helper()
+	WantErrno(t, "Switch to "+name, h.Switch(name), api.OK)
+}
+
+// WantDo expects an error.
+func WantDo(t T, h History, o op.Op, want api.Errno) {
+	t.Helper()
+	stamp, e := h.Do(o)
+	WantCause(t, "Do of "+o.Text(), stamp, e, 0, want)
+}
+
+// WantUndo expects an error with this cause, or 0 and OK.
+func WantUndo(t T, h History, stamp, cause uint32, want api.Errno) {
+	t.Helper()
+	got, e := h.Undo(stamp)
+	WantCause(t, "Undo of "+strconv.Itoa(int(stamp)), got, e, cause, want)
+}
+
+func WantRedo(t T, h History, stamp, cause uint32, want api.Errno) {
+	t.Helper()
+	got, e := h.Redo(stamp)
+	WantCause(t, "Redo of "+strconv.Itoa(int(stamp)), got, e, cause, want)
+}
+
+func WantMerge(t T, h History, name string, cause uint32, want api.Errno) {
+	t.Helper()
+	got, e := h.Merge(name)
+	WantCause(t, "Merge of "+name, got, e, cause, want)
 }

@@ -58,6 +58,33 @@ func TestTo(t *testing.T) {
 	}
 }
 
+// TestWants: each tells if an answer is not as it expects.
+func TestWants(t *testing.T) {
+	h := &told{} // whose answers are always the same
+	for what, want := range map[string]func(c *counter, e api.Errno, stamp uint32){
+		"WantUndo":  func(c *counter, e api.Errno, stamp uint32) { trial.WantUndo(c, h, 7, stamp, e+api.ErrForm) },
+		"WantRedo":  func(c *counter, e api.Errno, stamp uint32) { trial.WantRedo(c, h, 7, stamp+1, e+api.ErrNone) },
+		"WantMerge": func(c *counter, e api.Errno, stamp uint32) { trial.WantMerge(c, h, "x", stamp+4, e+api.ErrIndex) },
+	} {
+		wantTold(t, what, false, func(c *counter) { want(c, 0, 2) })
+		wantTold(t, what, true, func(c *counter) { want(c, 1, 2) })
+		wantTold(t, what, true, func(c *counter) { want(c, 0, 3) })
+	}
+	b, e := branch.New(trial.Right(t, trial.Little))
+	if e != api.OK {
+		t.Fatal(e)
+	}
+	wantTold(t, "Do", false, func(c *counter) { trial.Do(c, b, 1, trial.Add("x")) })
+	wantTold(t, "Do with another stamp", true, func(c *counter) { trial.Do(c, b, 1, trial.Add("y")) })
+	wantTold(t, "Do twice", true, func(c *counter) { trial.Do(c, b, 0, trial.Add("x")) })
+	wantTold(t, "WantDo", false, func(c *counter) { trial.WantDo(c, b, trial.Add("x"), api.ErrClash) })
+	wantTold(t, "WantDo of another error", true, func(c *counter) { trial.WantDo(c, b, trial.Add("x"), api.ErrArg) })
+	wantTold(t, "Fork", false, func(c *counter) { trial.Fork(c, b, "a") })
+	wantTold(t, "Fork twice", true, func(c *counter) { trial.Fork(c, b, "a") })
+	wantTold(t, "Switch", false, func(c *counter) { trial.Switch(c, b, "a") })
+	wantTold(t, "Switch to none", true, func(c *counter) { trial.Switch(c, b, "b") })
+}
+
 func TestAnyCommand(t *testing.T) {
 	below := rand.New(rand.NewSource(1)).Intn
 	b, e := branch.New(trial.Right(t, trial.Little))
