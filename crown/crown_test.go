@@ -11,6 +11,7 @@ import (
 	"hourglass/disk"
 	"hourglass/page"
 	"hourglass/sum"
+	"hourglass/trial"
 )
 
 func newDisk(t *testing.T, sectors int) *disk.Disk {
@@ -379,17 +380,6 @@ func TestWriteSyncsBeforeAndAfter(t *testing.T) {
 	}
 }
 
-// subsets are all ways in which a crash can keep n writes.
-func subsets(n int) [][]bool {
-	l := make([][]bool, 1<<n)
-	for bits := range l {
-		for k := range n {
-			l[bits] = append(l[bits], bits>>k&1 == 1)
-		}
-	}
-	return l
-}
-
 func TestCrashOfAWrite(t *testing.T) {
 	d := newDisk(t, 6)
 	format(t, d)
@@ -406,7 +396,7 @@ func TestCrashOfAWrite(t *testing.T) {
 			c.Limit(limit)
 			done := crown.Write(c, next) == api.OK
 			survivors := map[crown.Crown]int{}
-			for _, keep := range subsets(len(c.Waiting())) {
+			for _, keep := range trial.Subsets(len(c.Waiting())) {
 				s := crash(t, c, keep...)
 				got, i, e := crown.Read(s)
 				if e != api.OK || i != 0 || (got != previous && got != next) || (done && got != next) {
@@ -508,7 +498,7 @@ func TestCrashOfAFormat(t *testing.T) {
 			want = api.OK
 		}
 		wantErrno(t, "Format", crown.Format(d), want)
-		for _, keep := range subsets(len(d.Waiting())) {
+		for _, keep := range trial.Subsets(len(d.Waiting())) {
 			s := crash(t, d, keep...)
 			first := bytes.Equal(sectorOf(t, s, 1), stored(t, crown.First()))
 			if first && !s.Blank(0) {

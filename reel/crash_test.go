@@ -8,18 +8,8 @@ import (
 	"hourglass/crown"
 	"hourglass/disk"
 	"hourglass/reel"
+	"hourglass/trial"
 )
-
-// subsets are all ways in which a crash can keep n writes.
-func subsets(n int) [][]bool {
-	l := make([][]bool, 1<<n)
-	for bits := range l {
-		for k := range n {
-			l[bits] = append(l[bits], bits>>k&1 == 1)
-		}
-	}
-	return l
-}
 
 // survivors returns the records that Open finds: at least the first fewest of
 // all, and no others.
@@ -63,7 +53,7 @@ func TestCrashesInARow(t *testing.T) {
 			wantErrno(t, "Sync", r.Sync(), api.OK)
 			d.Limit(limit)
 			appendAll(r, first)
-			for _, keep := range subsets(len(d.Waiting())) {
+			for _, keep := range trial.Subsets(len(d.Waiting())) {
 				s := crash(t, d, keep...)
 				records := survivors(t, s, c, len(synced), append(synced[:2:2], first...))
 				found[len(records)] = true
@@ -84,7 +74,7 @@ func crashAgain(t *testing.T, d *disk.Disk, c crown.Crown, records, further [][]
 	if n := appendAll(open(t, d, c), further); n != len(further) {
 		t.Fatal(n)
 	}
-	for _, keep := range subsets(len(d.Waiting())) {
+	for _, keep := range trial.Subsets(len(d.Waiting())) {
 		survivors(t, crash(t, d, keep...), c, len(records), all)
 	}
 	survivors(t, d, c, len(all), all)
@@ -141,7 +131,7 @@ func stopAndGoOn(t *testing.T, c crown.Crown, before [][]byte, lost []byte, next
 
 func checkCrashes(t *testing.T, d *disk.Disk, c crown.Crown, all [][]byte) {
 	t.Helper()
-	for _, keep := range subsets(len(d.Waiting())) {
+	for _, keep := range trial.Subsets(len(d.Waiting())) {
 		survivors(t, crash(t, d, keep...), c, 1, all)
 	}
 }
